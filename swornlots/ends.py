@@ -3,7 +3,7 @@
 from swornlots.errors import BadRow, Shut, Strict
 from swornlots.ratios import lowest, opposite
 from swornlots.rows import MINUS_ONE, is_parts, multiplied, unknowns_in
-from swornlots.tableaus import BOUND, GAIN, PATIENCE, Tableau, pivoted, scale_of, stopping, without
+from swornlots.tableaus import BOUND, GAIN, Tableau, pivoted, scale_of, stopping, without
 
 
 class End:
@@ -48,13 +48,11 @@ def free_key(gain):
 
 def climb(tableau, gain):
     """The gain at its end, and None; or None, and the slack by which it grows without end."""
-    patience = PATIENCE * len(tableau.scales)
+    patience = tableau.first_patience()
     while True:
-        slacks = tableau.helpers(gain)
-        if not slacks:
+        entering = tableau.steepest(gain, patience)
+        if entering is None:
             return (gain, None)
-        # The quick rule at first, then the one by which no basis comes twice.
-        entering = min([(gain[key], key) for key in slacks])[1] if patience > 0 else min(slacks)
         patience = patience - 1
         leaving = stopping(tableau.basis, entering)
         if leaving is None:

@@ -67,16 +67,16 @@ def is_beyond(limit, strict):
 
 def risen(basis, number, strict, tableau):
     """A basis in which the slack of this number is as great as it can be, or None if it can break its row."""
+    patience = tableau.first_patience()
     while True:
+        entering = number
         if number in basis:
             if is_beyond(limit_of(basis[number], number), strict):
                 return None
-            helpers = tableau.helpers(basis[number])
-            if not helpers:
-                return basis
-            entering = min(helpers)
-        else:
-            entering = number
+            entering = tableau.steepest(basis[number], patience)
+            patience = patience - 1
+        if entering is None:
+            return basis
         leaving = stopping({slack: basis[slack] for slack in basis if slack != number}, entering)
         if leaving is None:
             return None

@@ -16,7 +16,6 @@ BOUND = -1
 SMALL = -2
 GAIN = -3
 
-# So many pivots for each row are made by the quick rule before the slow one, which surely comes to an end.
 PATIENCE = 5
 
 
@@ -157,7 +156,7 @@ class Tableau:
                 equation = self.basis[slack]
                 return equation if equation[BOUND] < 0 else negated(equation)
         costs = self.first_costs()
-        patience = PATIENCE * len(self.scales)
+        patience = self.first_patience()
         while True:
             leaving = self.shortest() if patience > 0 else self.lowest_short()
             if leaving is None:
@@ -188,6 +187,22 @@ class Tableau:
     def lowest_short(self):
         """The slack of the basis with the lowest number that is below 0, or None: so no basis comes twice."""
         return min([slack for slack, equation in self.basis.items() if size_of(equation) < (0, 0)], default=None)
+
+    def steepest(self, equation, patience):
+        """The helper that is furthest below 0, or that with the lowest number without patience; None without any.
+
+        With the lowest numbers no basis can come twice.
+        """
+        helpers = self.helpers(equation)
+        if not helpers:
+            return None
+        if patience <= 0:
+            return min(helpers)
+        return min([(equation[key], key) for key in helpers])[1]
+
+    def first_patience(self):
+        """How many pivots are made by a quick rule before a slow one that surely comes to an end."""
+        return PATIENCE * len(self.scales)
 
     def helpers(self, equation):
         """The slacks, other than fixed ones, that the equation has below 0."""

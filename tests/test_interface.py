@@ -1,0 +1,80 @@
+"""The names and arguments of the interface, and where they are defined."""
+
+import importlib
+import inspect
+import unittest
+
+FUNCTIONS = {
+    "ratios": {"is_fraction": "thing", "is_share": "thing", "compare": "first second", "total": "pairs"},
+    "forms": {"is_name": "thing"},
+    "contents": {"blend": "parts", "only": "lot"},
+    "ways": {"ways": "stock lot thing", "first_way": "stock lot thing", "walked": "plant deeds way"},
+    "traces": {"traces": "stock lot thing", "first_trace": "stock lot thing", "things_of": "stock lot"},
+    "trials": {"state_after": "stock deeds", "branches": "stock deeds rows"},
+    "rows": {"against": "row"},
+    "points": {"solve": "system", "unkept": "system point", "shuts": "system prices", "sum_of": "system prices"},
+    "ends": {"greatest": "system parts", "least": "system parts"},
+    "shadows": {"follows": "system row", "lean": "system", "shadow": "system unknowns", "lift": "system point"},
+    "clauses": {"decide": "clauses", "shut": "clauses tree"},
+    "primes": {"primes": "clauses", "say_same": "first second", "implied": "clauses clause",
+               "shadow_clauses": "clauses marks", "fewest": "clauses marks"},
+}
+CLASSES = {
+    "ratios": {"Ratio": ("above below", "__add__ __sub__ __mul__ __neg__ __abs__ __eq__ over less pair of")},
+    "plants": {"Plant": ("farms traits vessels", "__getitem__ __len__ __iter__ __contains__ __eq__")},
+    "stocks": {"Stock": ("plant", "do level clean amount mix touched content units lot_names box_names sample_names "
+                                  "__contains__ standing deeds opening state opened copy __eq__")},
+    "trials": {"Trial": ("stock", "__enter__ __exit__")},
+    "rows": {"Form": ("parts", "__add__ __sub__ __neg__ __mul__ __getitem__ __len__ __iter__ __eq__ at"),
+             "System": ("rows", "unknowns __add__ __len__ __iter__ __eq__ __contains__")},
+    "ends": {"End": (None, "__bool__")},
+    "clauses": {"Clauses": ("rows", "marks __add__ __len__ __iter__ __contains__ __eq__")},
+}
+METHODS = {
+    "Stock": {"do": "deed", "level": "vessel", "clean": "vessel", "amount": "box", "mix": "thing", "touched": "thing",
+              "content": "thing", "units": "lot", "opened": "plant state", "copy": "", "state": "", "standing": ""},
+    "Ratio": {"over": "other", "less": "other", "of": "pair"},
+    "Form": {"at": "point"},
+}
+PROPERTIES = {"Ratio": "pair", "Stock": "deeds opening", "System": "unknowns", "Clauses": "marks"}
+
+
+def parameters(thing):
+    return [name for name in inspect.signature(thing).parameters if name != "self"]
+
+
+class Interface(unittest.TestCase):
+    def test_functions(self):
+        for module, functions in FUNCTIONS.items():
+            file = importlib.import_module(f"swornlots.{module}")
+            for name, told in functions.items():
+                with self.subTest(name):
+                    function = vars(file)[name]
+                    self.assertTrue(inspect.isfunction(function))
+                    self.assertEqual(function.__module__, f"swornlots.{module}")
+                    self.assertEqual(parameters(function), told.split())
+
+    def test_generators(self):
+        for module, name in [("ways", "ways"), ("traces", "traces")]:
+            file = importlib.import_module(f"swornlots.{module}")
+            self.assertTrue(inspect.isgeneratorfunction(vars(file)[name]))
+
+    def test_classes(self):
+        for module, classes in CLASSES.items():
+            file = importlib.import_module(f"swornlots.{module}")
+            for name, (told, methods) in classes.items():
+                made = vars(file)[name]
+                self.assertEqual(made.__module__, f"swornlots.{module}")
+                if told is not None:
+                    self.assertEqual(parameters(made), told.split())
+                for method in methods.split():
+                    with self.subTest(f"{name}.{method}"):
+                        self.assertIn(method, vars(made))
+                for method, arguments in METHODS.get(name, {}).items():
+                    self.assertEqual(parameters(getattr(made, method)), arguments.split(), method)
+                for method in PROPERTIES.get(name, "").split():
+                    self.assertIsInstance(vars(made)[method], property)
+
+
+if __name__ == "__main__":
+    unittest.main()
