@@ -134,7 +134,7 @@ def is_shut_below(clauses, tree, answers):
     if tree[0] == "broken" and len(tree) == 2:
         number = tree[1]
         return is_whole_within(number, 0, len(clauses.rows) - 1) and is_broken(clauses.rows[number], answers)
-    if tree[0] != "ask" or len(tree) != 4 or not is_name_pair(tree[1]):
+    if tree[0] != "ask" or len(tree) != 4:
         return False
     _, mark, yes, no = tree
     if mark not in clauses.marks or mark in answers:

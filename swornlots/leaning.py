@@ -17,7 +17,7 @@ def lean_rows(rows):
         if row[1] == "=":
             left = without_equal(basis, number, tableau)
         else:
-            left = risen(flipped(basis, number), number, row[1] == "<", tableau)
+            left = risen(flipped(basis, number), number, tableau)
         if left is None:
             kept.append(row)
         else:
@@ -59,19 +59,23 @@ def flipped(basis, number):
     return result
 
 
-def is_beyond(limit, strict):
-    """Whether a slack that was turned breaks its row at the limit."""
+def is_beyond(limit):
+    """Whether a slack that was turned breaks its row at the limit.
+
+    The equation of a row with "<" has the small amount in it once, so the row is kept up to there. The slack of
+    another row is never between 0 and the small amount, as the small amount only makes the other rows tighter.
+    """
     bound, small, below = limit
-    return (bound, small) >= (0, below) if strict else (bound, small) > (0, 0)
+    return (bound, small) >= (0, below)
 
 
-def risen(basis, number, strict, tableau):
+def risen(basis, number, tableau):
     """A basis in which the slack of this number is as great as it can be, or None if it can break its row."""
     patience = tableau.first_patience()
     while True:
         entering = number
         if number in basis:
-            if is_beyond(limit_of(basis[number], number), strict):
+            if is_beyond(limit_of(basis[number], number)):
                 return None
             entering = tableau.steepest(basis[number], patience)
             patience = patience - 1
@@ -80,7 +84,7 @@ def risen(basis, number, strict, tableau):
         leaving = stopping({slack: basis[slack] for slack in basis if slack != number}, entering)
         if leaving is None:
             return None
-        if entering == number and is_beyond(limit_of(basis[leaving], number), strict):
+        if entering == number and is_beyond(limit_of(basis[leaving], number)):
             return None
         basis = pivoted(basis, leaving, entering)
 
@@ -91,7 +95,7 @@ def without_equal(basis, number, tableau):
         if slack in basis and number in basis[slack]:
             # Only slacks of rows with "=" stand in this equation, so it says that this one is 0.
             return basis if slack == number else pivoted(basis, slack, number)
-    highest = risen(basis, number, False, tableau)
+    highest = risen(basis, number, tableau)
     if highest is None:
         return None
-    return risen(flipped(highest, number), number, False, tableau)
+    return risen(flipped(highest, number), number, tableau)

@@ -118,9 +118,7 @@ class Ratio:
         return isinstance(other, Ratio) and self.above == other.above and self.below == other.below
 
     def over(self, other):
-        """The quotient of this one and the other one."""
-        if other.above == 0:
-            raise BadFraction(0)
+        """The quotient of this one and the other one; Ratio refuses the 0 below that a zero would bring."""
         return Ratio(self.above * other.below, self.below * other.above)
 
     def less(self, other):

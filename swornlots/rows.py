@@ -28,7 +28,7 @@ def is_row(thing):
     if not isinstance(thing, tuple) or len(thing) != 3:
         return False
     parts, sign, bound = thing
-    return is_parts(parts) and isinstance(sign, str) and sign in SIGNS and is_fraction(bound)
+    return is_parts(parts) and sign in SIGNS and is_fraction(bound)
 
 
 def is_point(thing):

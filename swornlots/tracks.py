@@ -8,7 +8,7 @@ MOST_TRACKS = 400
 
 
 class Leg:
-    """What one deed means for ways and traces."""
+    """What one deed means for ways and traces: whether its source, if it has one, is empty or untouched behind it."""
 
     def __init__(self, number, deed, weight, emptied, untouched):
         self.number = number
@@ -52,9 +52,7 @@ def legs(stock):
         after = amount_in(now, target)
         # The share that what comes by this deed has of its target.
         weight = None if target is None else lowest(after - before, after)
-        emptied = source is not None and amount_in(now, source) == 0
-        untouched = source is not None and is_untouched(now, source)
-        result.append(Leg(number, deed, weight, emptied, untouched))
+        result.append(Leg(number, deed, weight, amount_in(now, source) == 0, is_untouched(now, source)))
     return result
 
 

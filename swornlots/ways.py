@@ -52,7 +52,7 @@ def goes_on(leg, place):
 
 def walked(plant, deeds, way):
     """The thing to which the way leads behind these deeds, or None."""
-    if not way or not all([is_whole(number) for number in way]):
+    if not all([is_whole(number) for number in way]):
         return None
     stock = Stock(plant)
     for deed in deeds:

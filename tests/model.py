@@ -5,11 +5,8 @@ It reckons with Fraction, holds units of lots in place of shares, and refuses de
 
 from fractions import Fraction
 
-
-def is_model_name(thing, reserved):
-    if not isinstance(thing, str) or thing in reserved or not 1 <= len(thing) <= 8:
-        return False
-    return "a" <= thing[0] <= "z" and all("a" <= c <= "z" or "0" <= c <= "9" for c in thing)
+from swornlots.errors import LotError
+from swornlots.stocks import Stock
 
 
 class Model:
@@ -173,3 +170,20 @@ def random_deed(random, stock, lots=("l1", "l2", "l3"), most=12):
     if word == "sample":
         return (word, random.choice(vessels + boxes), new)
     return (word, random.choice(samples))
+
+
+def some_deeds(random, stock, most):
+    """Does up to so many random deeds of two lots; those that are refused are left out."""
+    for _ in range(most):
+        try:
+            stock.do(random_deed(random, stock, lots=("l1", "l2")))
+        except LotError:
+            pass
+
+
+def stock_of(plant, deeds):
+    """A stock of the plant that has done these deeds."""
+    stock = Stock(plant)
+    for deed in deeds:
+        stock.do(deed)
+    return stock

@@ -165,6 +165,7 @@ class Trees(unittest.TestCase):
             # Other forms.
             ["ask", A, good, mended], ("ask", A, list(good), mended), ("ask", A, good, list(mended)), ("ask", A, good), ("ask", A), ("ask",),
             ("ask", A, good, mended, good), ("broken",), ("ask", A, ("broken", 1, 1), mended), ("no", A, good, mended), ("broke", 1),
+            ("ask", A, ("broke", 1), mended), ("ask", A, (None, 1), mended),
             (), None, True, 5, "", "ask", {}, [], (None,), ((),), ("ask", A, None, mended), ("ask", A, good, None), (True, A, good, mended),
             ("tree", self.TREE), (self.TREE,), told,
         ]:

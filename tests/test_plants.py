@@ -53,6 +53,12 @@ class Plants(unittest.TestCase):
         self.refused("vessels", ["a"], [], [])
         self.refused("vessels", ["a"], [], six + [("v6", 10, 0)])
 
+    def test_other_kinds(self):
+        for thing in ["abc", None, 5, {"a": 1}, {"a"}]:
+            self.refused("farms", thing, TRAITS, VESSELS)
+            self.refused("traits", FARMS, thing, VESSELS)
+            self.refused("vessels", FARMS, TRAITS, thing)
+
     def test_names(self):
         self.refused("farms", ["east", "east"], TRAITS, VESSELS)
         self.refused("traits", FARMS, ["nuts", "nuts"], VESSELS)

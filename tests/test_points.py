@@ -102,6 +102,15 @@ class Reckoning(unittest.TestCase):
             self.assertIs(shuts(told, tuple(pair(price) for price in prices)), shut, prices)
         self.assertIs(shuts(System(()), ()), False)
 
+    def test_prices_below_zero_and_bounds_above_zero(self):
+        for rows, prices, shut in [
+            ([({X: 1}, "<=", 2), ({X: -1}, "<=", -1)], (-1, -1), False), ([({X: 1}, "<", 2), ({X: -1}, "<", -1)], (-1, -1), False),
+            ([({}, "<=", 1)], (-1,), False), ([({}, "=", 1)], (-1,), True), ([({}, "<", 1)], (1,), False),
+            ([({X: 1}, "<", 2), ({X: -1}, "<=", -1)], (1, 1), False), ([({}, "=", 1), ({}, "<", 1)], (-1, 1), True),
+            ([({}, "=", 1), ({}, "<", 2)], (-1, 1), False),
+        ]:
+            self.assertIs(shuts(system(*rows), tuple(pair(price) for price in prices)), shut, rows)
+
     def test_prices_that_were_told_may_be_passed_back(self):
         rows = [row({X: 10 ** 39 + k, Y: 10 ** 39 - k * k}, "<=", 1 - k) for k in range(1, 6)]
         rows += [row({X: -(10 ** 39), Y: -(10 ** 39)}, "<=", -1)]

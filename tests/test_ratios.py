@@ -121,6 +121,11 @@ class Ratios(unittest.TestCase):
             self.assertFalse(Ratio(1, 2) == other)
             self.assertFalse(Ratio(1) == other)
 
+    def test_other_kinds(self):
+        for act in [lambda: Ratio(1) + 1, lambda: Ratio(1) - (1, 1), lambda: Ratio(1) * 2, lambda: 1 + Ratio(1)]:
+            with self.assertRaises(TypeError):
+                act()
+
     def test_signs(self):
         random = Random(1)
         for _ in range(300):

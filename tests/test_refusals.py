@@ -2,19 +2,16 @@
 
 import unittest
 
+from model import stock_of
 from swornlots.errors import BadDeed, Empty, Full, Known, NoThing, Short, TooMany
 from swornlots.forms import RESERVED
 from swornlots.plants import Plant
-from swornlots.stocks import Stock
 
 PLANT = Plant(["east"], [], [("kettle", 10000, 10), ("pot", 50, 0), ("vat", 20, 5)])
 
 
 def done(*deeds, plant=PLANT):
-    stock = Stock(plant)
-    for deed in deeds:
-        stock.do(deed)
-    return stock
+    return stock_of(plant, deeds)
 
 
 class Refusals(unittest.TestCase):

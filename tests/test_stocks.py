@@ -2,6 +2,7 @@
 
 import unittest
 
+from model import stock_of
 from swornlots.errors import LotError, NoThing, Known
 from swornlots.plants import Plant
 from swornlots.stocks import Stock
@@ -11,10 +12,7 @@ L1 = ((("l1", (1, 1)),), ("l1",))
 
 
 def done(*deeds, plant=PLANT):
-    stock = Stock(plant)
-    for deed in deeds:
-        stock.do(deed)
-    return stock
+    return stock_of(plant, deeds)
 
 
 class TheSmallCase(unittest.TestCase):
@@ -181,6 +179,13 @@ class Asking(unittest.TestCase):
                 with self.subTest(method=method, name=name), self.assertRaises(NoThing) as caught:
                     getattr(self.stock, method)(name)
                 self.assertEqual(caught.exception.name, name)
+
+    def test_names_of_other_kinds(self):
+        for method in ["level", "clean", "amount", "mix", "touched", "content", "units"]:
+            for name in [["pot"], None, True, ("pot",)]:
+                with self.assertRaises(NoThing) as caught:
+                    getattr(self.stock, method)(name)
+                self.assertIs(caught.exception.name, name)
 
     def test_state(self):
         half = ((("l1", (1, 2)), ("l2", (1, 2))), ("l1", "l2"))

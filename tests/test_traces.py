@@ -3,8 +3,8 @@
 import unittest
 from random import Random
 
-from model import random_deed
-from swornlots.errors import LotError, NoThing, TooMany
+from model import some_deeds, stock_of
+from swornlots.errors import NoThing, TooMany
 from swornlots.plants import Plant
 from swornlots.stocks import Stock
 from swornlots.traces import first_trace, things_of, traces
@@ -13,10 +13,7 @@ PLANT = Plant(["east"], [], [("kettle", 100, 10), ("pot", 100, 0)])
 
 
 def done(*deeds, plant=PLANT):
-    stock = Stock(plant)
-    for deed in deeds:
-        stock.do(deed)
-    return stock
+    return stock_of(plant, deeds)
 
 
 def searched(stock, lot, thing):
@@ -70,23 +67,16 @@ class RandomTraces(unittest.TestCase):
                 tuple(t for t in things if lot in dict(stock.mix(t))), tuple(t for t in things if lot in stock.touched(t))))
         return many
 
-    def some_deeds(self, random, stock, most):
-        for _ in range(most):
-            try:
-                stock.do(random_deed(random, stock, lots=("l1", "l2")))
-            except LotError:
-                pass
-
     def test_random_rows(self):
         plant = Plant(["east"], [], [("kettle", 40, 5), ("pot", 30, 0), ("vat", 20, 3)])
         many = 0
         for seed in range(100):
             random = Random(seed)
             stock = Stock(plant)
-            self.some_deeds(random, stock, 24)
+            some_deeds(random, stock, 24)
             many += self.held(stock)
             opened = Stock.opened(plant, stock.state())
-            self.some_deeds(random, opened, 16)
+            some_deeds(random, opened, 16)
             many += self.held(opened)
         self.assertGreater(many, 1000)
 

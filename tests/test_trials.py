@@ -2,6 +2,7 @@
 
 import unittest
 
+from model import stock_of
 from swornlots.errors import Full, LotError, NoThing, Short
 from swornlots.plants import Plant
 from swornlots.stocks import Stock
@@ -12,10 +13,7 @@ START = (("take", "l1", "pot", 20), ("pack", "pot", "b1", 5), ("sample", "pot", 
 
 
 def begun():
-    stock = Stock(PLANT)
-    for deed in START:
-        stock.do(deed)
-    return stock
+    return stock_of(PLANT, START)
 
 
 class Trials(unittest.TestCase):

@@ -4,8 +4,8 @@ import unittest
 from fractions import Fraction
 from random import Random
 
-from model import random_deed
-from swornlots.errors import LotError, NoThing, TooMany
+from model import some_deeds, stock_of
+from swornlots.errors import NoThing, TooMany
 from swornlots.plants import Plant
 from swornlots.stocks import Stock
 from swornlots.ways import first_way, walked, ways
@@ -15,10 +15,7 @@ GOING = ("move", "pack", "part", "open")
 
 
 def done(*deeds, plant=PLANT):
-    stock = Stock(plant)
-    for deed in deeds:
-        stock.do(deed)
-    return stock
+    return stock_of(plant, deeds)
 
 
 def amount(stock, place):
@@ -99,24 +96,17 @@ class RandomWays(unittest.TestCase):
                         self.assertEqual(walked(stock.plant, stock.deeds, way), thing)
         return many
 
-    def some_deeds(self, random, stock, most):
-        for _ in range(most):
-            try:
-                stock.do(random_deed(random, stock, lots=("l1", "l2")))
-            except LotError:
-                pass
-
     def test_random_rows(self):
         plant = Plant(["east"], [], [("kettle", 40, 5), ("pot", 30, 0), ("vat", 20, 3)])
         many = 0
         for seed in range(150):
             random = Random(seed)
             stock = Stock(plant)
-            self.some_deeds(random, stock, 24)
+            some_deeds(random, stock, 24)
             many += self.held(stock)
             opened = Stock.opened(plant, stock.state())
             many += self.held(opened)
-            self.some_deeds(random, opened, 16)
+            some_deeds(random, opened, 16)
             many += self.held(opened)
         self.assertGreater(many, 2000)
 
@@ -126,7 +116,7 @@ class RandomWays(unittest.TestCase):
         for seed in range(40):
             random = Random(seed)
             stock = Stock(plant)
-            self.some_deeds(random, stock, 16)
+            some_deeds(random, stock, 16)
             many = min(len(stock.deeds), 7)
             deeds = stock.deeds[:many]
             stock = done(*deeds, plant=plant)
@@ -216,7 +206,7 @@ class SmallWays(unittest.TestCase):
     def test_what_is_no_way(self):
         stock = done(("take", "l1", "pot", 10), ("take", "l2", "kettle", 30), ("move", "kettle", "pot", 10),
                      ("pack", "pot", "b1", 5), ("drain", "pot"))
-        for way in [(), (0,), (-1,), (6,), (1,), (1, 1), (2, 2), (3,), (4,), (2, 4), (1, 3), (1, 3, 4), (3, 2), (4, 1), (1, 4, 5),
+        for way in [(True,), (True, 4), (), (0,), (-1,), (6,), (1,), (1, 1), (2, 2), (3,), (4,), (2, 4), (1, 3), (1, 3, 4), (3, 2), (4, 1), (1, 4, 5),
                     (1, 5), (0, 4), (1, 2), (2, 3), (1, 4, 4), (10 ** 39,), (2, 3, 10 ** 39)]:
             self.assertIsNone(walked(PLANT, stock.deeds, way), way)
         for way, thing in [((2,), "kettle"), ((1, 4), "b1"), ((2, 3, 4), "b1")]:
