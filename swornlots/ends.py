@@ -3,7 +3,7 @@
 from swornlots.errors import BadRow, Shut, Strict
 from swornlots.ratios import lowest, opposite
 from swornlots.rows import MINUS_ONE, is_parts, multiplied, unknowns_in
-from swornlots.tableaus import BOUND, GAIN, Tableau, pivoted, scale_of, stopping, without
+from swornlots.tableaus import BOUND, GAIN, Tableau
 
 
 class End:
@@ -26,39 +26,12 @@ def check_not_strict(system):
             raise Strict(number)
 
 
-def gain_of(tableau, parts):
-    """The equation that tells how often the gain, the value of the parts, is in which slacks."""
-    scale = scale_of((parts, "=", (0, 1)))
-    gain = {unknown: -above * scale // below for unknown, (above, below) in parts}
-    gain[GAIN] = scale
-    gain = tableau.without_solved(gain)
-    for slack, equation in tableau.basis.items():
-        if slack in gain:
-            gain = without(gain, equation, slack)
-    return gain
-
-
 def free_key(gain):
     """An unknown by which the gain grows without end, or None."""
     for key in gain:
         if isinstance(key, tuple):
             return key
     return None
-
-
-def climb(tableau, gain):
-    """The gain at its end, and None; or None, and the slack by which it grows without end."""
-    patience = tableau.first_patience()
-    while True:
-        entering = tableau.steepest(gain, patience)
-        if entering is None:
-            return (gain, None)
-        patience = patience - 1
-        leaving = stopping(tableau.basis, entering)
-        if leaving is None:
-            return (None, entering)
-        tableau.basis = pivoted(tableau.basis, leaving, entering)
-        gain = without(gain, tableau.basis[entering], entering)
 
 
 def greatest(system, parts):
@@ -71,12 +44,12 @@ def greatest(system, parts):
     if shutting is not None:
         raise Shut(tableau.row_prices(shutting))
     names = unknowns_in([*system.rows, (parts, "=", (0, 1))])
-    gain = gain_of(tableau, parts)
+    gain = tableau.gain_of(parts)
     endless = free_key(gain)
     if endless is not None:
         ray = tableau.ray_of(names, endless, -1 if gain[endless] > 0 else 1)
         return End(None, tableau.point_of(names), None, ray)
-    gain, endless = climb(tableau, gain)
+    gain, endless = tableau.climb(gain)
     if endless is not None:
         return End(None, tableau.point_of(names), None, tableau.ray_of(names, endless, 1))
     value = lowest(gain.get(BOUND, 0), gain[GAIN])

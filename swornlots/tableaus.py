@@ -216,6 +216,31 @@ class Tableau:
                 result = key
         return result
 
+    def gain_of(self, parts):
+        """The equation that tells how often the gain, the value of the parts, is in which slacks."""
+        scale = scale_of((parts, "=", ZERO))
+        gain = {unknown: -above * scale // below for unknown, (above, below) in parts}
+        gain[GAIN] = scale
+        gain = self.without_solved(gain)
+        for slack, equation in self.basis.items():
+            if slack in gain:
+                gain = without(gain, equation, slack)
+        return gain
+
+    def climb(self, gain):
+        """The gain at its end, and None; or None, and the slack by which it grows without end."""
+        patience = self.first_patience()
+        while True:
+            entering = self.steepest(gain, patience)
+            if entering is None:
+                return (gain, None)
+            patience = patience - 1
+            leaving = stopping(self.basis, entering)
+            if leaving is None:
+                return (None, entering)
+            self.basis = pivoted(self.basis, leaving, entering)
+            gain = without(gain, self.basis[entering], entering)
+
     def row_prices(self, equation, below=1):
         """How often the equation, divided by below, has each row in it."""
         return tuple([lowest(equation.get(number, 0) * scale, below) for number, scale in enumerate(self.scales)])
