@@ -48,12 +48,17 @@ def sum_of_rows(rows, prices):
 
 def shuts(system, prices):
     """Whether the prices shut the system."""
-    if len(prices) != len(system):
+    return shuts_rows(system.rows, prices)
+
+
+def shuts_rows(rows, prices):
+    """Whether the prices shut some rows."""
+    if len(prices) != len(rows):
         return False
-    priced = list(zip(system.rows, prices))
+    priced = [(row, price) for row, price in zip(rows, prices) if price != ZERO]
     if any([row[1] != "=" and price[0] < 0 for row, price in priced]):
         return False
-    parts, bound = sum_of(system, prices)
+    parts, bound = sum_of_rows([row for row, _ in priced], [price for _, price in priced])
     if parts != () or bound[0] > 0:
         return False
-    return bound[0] < 0 or any([row[1] == "<" and price[0] > 0 for row, price in priced])
+    return bound[0] < 0 or any([row[1] == "<" for row, _ in priced])
