@@ -96,20 +96,21 @@ class Checker:
 
     def __init__(self, plant, lots, formulas):
         self.plant = plant
-        self.lots = lots
-        self.formulas = formulas
+        self.for_lots = lots
+        self.for_formulas = formulas
         self.rows = lot_rows(plant, lots)
 
     def can_ask(self, atom, asked):
         """Whether the atom can be asked behind those that were."""
         if not is_atom(self.plant, atom) or any([atom == told for told, _ in asked]):
             return False
-        return all([lot in self.lots for lot in lots_of_atom(atom)])
+        return all([lot in self.for_lots for lot in lots_of_atom(atom)])
 
     def is_shut(self, word, told, asked):
         """Whether a leaf with the word shuts the way."""
         if word == "false":
-            return is_whole_within(told, 0, len(self.formulas) - 1) and known(self.formulas[told], asked) is False
+            many = len(self.for_formulas)
+            return is_whole_within(told, 0, many - 1) and known(self.for_formulas[told], asked) is False
         if word == "ring":
             return is_ring(way_ties(asked), told)
         if word != "prices" or not isinstance(told, tuple) or not all([is_fraction(price) for price in told]):

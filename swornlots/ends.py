@@ -39,11 +39,16 @@ def greatest(system, parts):
     if not is_parts(parts):
         raise BadRow(0)
     check_not_strict(system)
-    tableau = Tableau(system.rows)
+    return greatest_of_rows(system.rows, parts)
+
+
+def greatest_of_rows(rows, parts):
+    """The greatest end of the form over rows without "<"."""
+    tableau = Tableau(rows)
     shutting = tableau.settle()
     if shutting is not None:
         raise Shut(tableau.row_prices(shutting))
-    names = unknowns_in([*system.rows, (parts, "=", (0, 1))])
+    names = unknowns_in([*rows, (parts, "=", (0, 1))])
     gain = tableau.gain_of(parts)
     endless = free_key(gain)
     if endless is not None:

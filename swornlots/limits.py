@@ -11,6 +11,9 @@ from math import gcd, lcm
 from swornlots.ratios import ONE, ZERO, lowest, opposite, plus, times
 from swornlots.rows import gathered
 
+# Rows with a smaller divisor are not worth being reduced.
+SMALL_ENOUGH = 1000000
+
 
 def without_last(parts, farms):
     """The parts without the last farm, the shares of which come to 1 with the others, and the constant that is left."""
@@ -78,9 +81,10 @@ class Limits:
         self.unit = 1
         self.variables = {}
         self.lows, self.highs = [], []
-        self.columns, self.units, self.smalls = [], [], []
+        self.columns, self.wholes, self.smalls = [], [], []
         self.rows = {}
         self.before = []
+        self.is_settled = False
         self.set_limits()
         self.set_variables()
 
@@ -110,7 +114,7 @@ class Limits:
             self.columns.append(len(self.lows))
             self.lows.append(((0, 0), None))
             self.highs.append(None)
-            self.units.append(0)
+            self.wholes.append(0)
             self.smalls.append(0)
         for form in sums + forms:
             if form not in self.variables:
@@ -139,9 +143,10 @@ class Limits:
         held, against = mine[variable], other[variable]
         self.before.append((mine, variable, held))
         if against is not None and is_tighter(rule.limit, against[0], rule.is_low):
-            return self.prices([(literal, 1), (against[1], 1)])
+            return self.priced([(literal, 1), (against[1], 1)])
         if held is None or is_tighter(rule.limit, held[0], rule.is_low):
             mine[variable] = (rule.limit, literal)
+            self.is_settled = False
             self.keep_column(variable)
         return None
 
@@ -157,23 +162,24 @@ class Limits:
         if variable in self.rows:
             return
         at = self.columns.index(variable)
-        value = (self.units[at], self.smalls[at])
+        value = (self.wholes[at], self.smalls[at])
         low, high = self.lows[variable], self.highs[variable]
         if low is not None and value < low[0]:
-            self.units[at], self.smalls[at] = low[0]
+            self.wholes[at], self.smalls[at] = low[0]
         if high is not None and value > high[0]:
-            self.units[at], self.smalls[at] = high[0]
+            self.wholes[at], self.smalls[at] = high[0]
 
-    def prices(self, counted):
+    def priced(self, counted):
         """The prices of pairs of a literal, None for what always holds, and a positive integer."""
         return {literal: times(self.rules[literal].weight, (count, 1))
                 for literal, count in counted if literal is not None}
 
     def settle(self):
         """Makes all variables keep their limits; None, or a dict of prices that shut literals."""
-        while True:
+        while not self.is_settled:
             broken = self.first_broken()
             if broken is None:
+                self.is_settled = True
                 return None
             variable, is_low = broken
             at = self.helper(variable, is_low)
@@ -181,11 +187,12 @@ class Limits:
                 return self.shutting(variable, is_low)
             table = self.lows if is_low else self.highs
             self.pivot(variable, at, table[variable][0])
+        return None
 
     def value_in_row(self, variable):
         """The units and small amounts of a variable of the basis times its integer, and this integer."""
         below, row = self.rows[variable]
-        units = sum([number * value for number, value in zip(row, self.units)])
+        units = sum([number * value for number, value in zip(row, self.wholes)])
         smalls = sum([number * value for number, value in zip(row, self.smalls)])
         return (units, smalls, below)
 
@@ -214,7 +221,7 @@ class Limits:
 
     def can_move(self, at, rising):
         """Whether the value of a column can rise, or fall."""
-        value = (self.units[at], self.smalls[at])
+        value = (self.wholes[at], self.smalls[at])
         if rising:
             high = self.highs[self.columns[at]]
             return high is None or value < high[0]
@@ -230,7 +237,7 @@ class Limits:
             if number != 0:
                 side = other if number > 0 else table
                 counted.append((side[self.columns[at]][1], abs(number)))
-        return self.prices(counted)
+        return self.priced(counted)
 
     def pivot(self, variable, at, limit):
         """Puts the column at this place into the basis for the variable, which gets the limit as its value."""
@@ -242,18 +249,18 @@ class Limits:
         below = row[at]
         if below < 0:
             below, solved = -below, [-number for number in solved]
-        for other in self.rows:
+        for other in list(self.rows):
             if self.rows[other][1][at] != 0:
                 self.rows[other] = replaced(self.rows[other], at, below, solved)
         self.rows[entering] = (below, solved)
         self.columns[at] = variable
-        self.units[at], self.smalls[at] = limit
+        self.wholes[at], self.smalls[at] = limit
 
     def all_values(self):
         """The units and small amounts of all variables, each with the integer by which they are to be divided."""
         result = {variable: self.value_in_row(variable) for variable in self.rows}
         for at, variable in enumerate(self.columns):
-            result[variable] = (self.units[at], self.smalls[at], 1)
+            result[variable] = (self.wholes[at], self.smalls[at], 1)
         return result
 
     def small_amount(self, values):
@@ -294,6 +301,8 @@ def replaced(told, at, below, solved):
     result = [own * factor + number * other for own, other in zip(row, solved)]
     result[at] = number * solved[at]
     divisor = divisor * factor
+    if divisor < SMALL_ENOUGH:
+        return (divisor, result)
     common = divisor
     for own in result:
         common = gcd(common, own)

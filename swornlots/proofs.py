@@ -35,7 +35,7 @@ class Grower:
 
     def __init__(self, farms, lots, atoms):
         self.farms = farms
-        self.lots = lots
+        self.for_lots = lots
         self.atoms = atoms
         self.answers = {}
 
@@ -97,7 +97,7 @@ class Grower:
             for unknown, fraction in self.atoms[literal // 2][1]:
                 sums[unknown] = plus(sums.get(unknown, ZERO), times(fraction, times(sign, price)))
         result = []
-        for lot in self.lots:
+        for lot in self.for_lots:
             worths = [sums.get((lot, farm), ZERO) for farm in self.farms]
             least = worths[0]
             for worth in worths:
@@ -106,3 +106,20 @@ class Grower:
             result.extend([plus(worth, opposite(least)) for worth in worths])
             result.append(opposite(least))
         return result
+
+
+def leaves_of(proof):
+    """A list of all leaves of a proof, each once."""
+    seen = {proof: True}
+    todo = [proof]
+    result = []
+    while todo:
+        told = todo.pop()
+        if isinstance(told, Leaf):
+            result.append(told)
+            continue
+        for below in (told.yes, told.no):
+            if below not in seen:
+                seen[below] = True
+                todo.append(below)
+    return result

@@ -1,7 +1,7 @@
 """Why a deed is refused."""
 
 from swornlots.deeds import ROLES, is_deed
-from swornlots.errors import BadDeed, Empty, Full, Known, NoThing, Short, TooMany
+from swornlots.errors import BadDeed, Empty, Full, Known, NoThing, Sent, Short, TooMany
 
 MOST_DEEDS = 200
 MOST_LOTS = 12
@@ -31,12 +31,14 @@ def is_taken(moment, role, name):
     return False
 
 
-def check_names(moment, deed):
-    """Refuses names that are not there, then used ones, then one thing too many."""
+def check_names(moment, deed, sent):
+    """Refuses names that are not there, then a box that was sent, then used names, then one thing too many."""
     told = list(zip(ROLES[deed[0]], deed[1:]))
     for role, name in told:
         if not is_there(moment, role, name):
             raise NoThing(name)
+    if deed[0] in ("part", "open") and deed[1] in sent:
+        raise Sent(deed[1])
     for role, name in told:
         if is_taken(moment, role, name):
             raise Known(name)
@@ -76,11 +78,11 @@ def check_stuff(moment, plant, deed):
             raise Full(vessel)
 
 
-def check_deed(moment, plant, deed):
-    """Refuses what is no deed, or cannot be done at this moment."""
+def check_deed(moment, plant, deed, sent=()):
+    """Refuses what is no deed, or cannot be done at this moment, where these boxes were sent."""
     if not is_deed(deed):
         raise BadDeed(deed)
     if len(moment.done) >= MOST_DEEDS:
         raise TooMany("deed")
-    check_names(moment, deed)
+    check_names(moment, deed, sent)
     check_stuff(moment, plant, deed)

@@ -4,9 +4,7 @@ Literals are put on a trail: those that are forced by what stands on it, and one
 clash shows, it is traced back to the last decision, until it forces another literal further down the trail.
 """
 
-from swornlots.forks import (
-    demands, fork_of, literals_in, open_literals, opposite_of, pieces_of, reasons_against,
-)
+from swornlots.forks import Forks, fork_of, literals_in, opposite_of, pieces_of
 from swornlots.formulas import atoms_in
 from swornlots.limits import Limits
 from swornlots.proofs import Ask, Clash, Leaf
@@ -38,6 +36,7 @@ class Search:
         self.watching = [[] for _ in self.truth]
         self.limits = Limits(farms, shares)
         self.calendar = Calendar()
+        self.forks = Forks(len(self.truth))
         self.pieces = []
         self.uses = [[] for _ in self.atoms]
         for number, formula in enumerate(formulas):
@@ -45,17 +44,19 @@ class Search:
                 self.add_piece(number, fork)
 
     def add_piece(self, number, fork):
-        """Adds a fork that must be true, as the formula of this number must be."""
-        if fork is not False:
-            for atom in sorted({literal // 2 for literal in literals_in(fork)}):
-                self.uses[atom].append(len(self.pieces))
-        self.pieces.append((number, fork))
+        """Adds a fork that must be true, as the formula of this number must be; None stands for one that is false."""
+        if fork is False:
+            self.pieces.append((number, None))
+            return
+        for atom in sorted({literal // 2 for literal in literals_in(fork)}):
+            self.uses[atom].append(len(self.pieces))
+        self.pieces.append((number, self.forks.add(fork, None)))
 
     def run(self):
         """None if the answers on the trail make all formulas true, otherwise a proof that no answers do."""
-        for number, fork in self.pieces:
-            if fork is False:
-                return Leaf("false", number)
+        for formula, fork in self.pieces:
+            if fork is None:
+                return Leaf("false", formula)
         clash = self.first_clash()
         while True:
             if clash is None:
@@ -104,6 +105,7 @@ class Search:
         self.level_of[atom] = len(self.starts)
         self.place_of[atom] = len(self.trail)
         self.trail.append(literal)
+        self.forks.tell(literal)
 
     def clash_by_theory(self, literal):
         """Tells shares and days of a literal; the clash that comes of it, or None."""
@@ -125,33 +127,20 @@ class Search:
     def clash_in(self, number):
         """Puts what a piece forces on the trail; the clash if it is false, or None."""
         formula, fork = self.pieces[number]
-        forced = demands(fork, self.truth)
-        if forced is None:
-            return self.clash_against(formula, fork)
-        for literal in forced:
-            if self.truth[literal] is None:
-                self.put(literal, self.reason_for(literal, formula, fork))
+        value = self.forks.known[fork]
+        if value is False:
+            return clash_against(formula, self.forks.reasons_against(fork))
+        if value is None:
+            for literal, because in self.forks.demands(fork, []):
+                if self.truth[literal] is None:
+                    self.put(literal, clash_against(formula, [*because, opposite_of(literal)]))
         return None
-
-    def clash_against(self, formula, fork):
-        """The clash of the literals by which the fork of a formula is false."""
-        literals = {literal: True for literal in reasons_against(fork, self.truth)}
-        return Clash(list(literals), Leaf("false", formula))
-
-    def reason_for(self, literal, formula, fork):
-        """The clash that there would be if the literal, which the fork forces, were false."""
-        other = opposite_of(literal)
-        self.truth[literal], self.truth[other] = False, True
-        reason = self.clash_against(formula, fork)
-        self.truth[literal], self.truth[other] = None, None
-        return reason
 
     def clash_by_kept(self, literal):
         """Looks at the clashes that watch a literal; one all of whose literals are true, or None."""
-        waiting = self.watching[literal]
         staying = []
         found = None
-        for clash in waiting:
+        for clash in list(self.watching[literal]):
             if found is None and self.watches_another(clash, literal):
                 continue
             staying.append(clash)
@@ -182,12 +171,13 @@ class Search:
         return None
 
     def choice(self):
-        """The open literal for the next decision, None if all formulas are true."""
-        result = None
-        for _, fork in self.pieces:
-            for literal in open_literals(fork, self.truth):
-                if result is None or self.scores[literal // 2] > self.scores[result // 2]:
-                    result = literal
+        """The wanted literal with the highest score for the next decision, None if all formulas are true."""
+        result, most = None, -1
+        for atom, score in enumerate(self.scores):
+            if score > most and self.truth[2 * atom] is None:
+                for literal in (2 * atom, 2 * atom + 1):
+                    if self.forks.is_wanted(literal):
+                        result, most = literal, score
         return result
 
     def traced(self, clash):
@@ -240,6 +230,7 @@ class Search:
         while len(self.trail) > self.starts[level]:
             literal = self.trail.pop()
             self.truth[literal], self.truth[opposite_of(literal)] = None, None
+            self.forks.untell(literal)
             if len(self.trail) < self.done:
                 self.take_back(literal)
         self.done = min(self.done, len(self.trail))
@@ -252,6 +243,11 @@ class Search:
             self.limits.take_back()
         elif atom[0] == "days":
             self.calendar.take_back(atom, literal & 1 == 1)
+
+
+def clash_against(formula, literals):
+    """The clash of literals by which the formula of this number is false."""
+    return Clash(list({literal: True for literal in literals}), Leaf("false", formula))
 
 
 def clash_of(word, told):

@@ -22,21 +22,21 @@ class Calendar:
 
     def __init__(self):
         self.days = {"": 0}
-        self.standing = {}
+        self.posted = {}
 
     def put(self, atom, answer, literal):
         """Puts up the tie of a literal; None, or a list of literals whose ties are a ring, in its order."""
         first, second, n = tie_told(atom, answer)
         for name in (first, second):
             self.days.setdefault(name, 0)
-            self.standing.setdefault(name, [])
+            self.posted.setdefault(name, [])
         span = Span(first, second, n, literal)
-        self.standing[first].append(span)
+        self.posted[first].append(span)
         return self.settle(span)
 
     def take_back(self, atom, answer):
         """Takes back the tie that was put up last with this first name."""
-        self.standing[tie_told(atom, answer)[0]].pop()
+        self.posted[tie_told(atom, answer)[0]].pop()
 
     def settle(self, span):
         """Lowers days until all ties are kept again; if the new one comes to lower its own first day, it is a ring."""
@@ -52,7 +52,7 @@ class Calendar:
                 return ring_of(step, came, span)
             lowered[step.second] = day
             came[step.second] = step
-            todo.extend(self.standing[step.second])
+            todo.extend(self.posted[step.second])
         self.days.update(lowered)
         return None
 
