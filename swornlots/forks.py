@@ -67,7 +67,7 @@ class Forks:
         self.known = []
         self.places = [[] for _ in range(many)]
 
-    def add(self, fork, around):
+    def include(self, fork, around):
         """Adds a fork with all that is in it, and tells its number."""
         number = len(self.words)
         self.words.append(fork[0] if isinstance(fork, tuple) else fork)
@@ -76,7 +76,7 @@ class Forks:
         self.counts.append({True: 0, False: 0})
         self.known.append(None)
         if isinstance(fork, tuple):
-            self.inside[number] = [self.add(part, number) for part in fork[1]]
+            self.inside[number] = [self.include(part, number) for part in fork[1]]
         else:
             self.places[fork].append(number)
         return number

@@ -50,7 +50,7 @@ class Search:
             return
         for atom in sorted({literal // 2 for literal in literals_in(fork)}):
             self.uses[atom].append(len(self.pieces))
-        self.pieces.append((number, self.forks.add(fork, None)))
+        self.pieces.append((number, self.forks.include(fork, None)))
 
     def run(self):
         """None if the answers on the trail make all formulas true, otherwise a proof that no answers do."""

@@ -45,7 +45,7 @@ def random_paper(random, stock):
         return (word, lot, random.randint(-5, 5))
     if word == "apart":
         return (word, *random.sample(["", *lots], 2), random.randint(-3, 6))
-    sample = random.choice(stock.sample_names())
+    sample = random.choice(stock.sample_names() or ("s1",))
     if word in ("clear", "found"):
         return (word, sample, random.choice(plant.traits))
     if word == "measured":

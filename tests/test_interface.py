@@ -18,6 +18,21 @@ FUNCTIONS = {
     "clauses": {"decide": "clauses", "shut": "clauses tree"},
     "primes": {"primes": "clauses", "say_same": "first second", "implied": "clauses clause",
                "shadow_clauses": "clauses marks", "fewest": "clauses marks"},
+    "days": {"placed": "ties", "is_ring": "ties ring"},
+    "tables": {"shadow_ties": "ties lots", "lean_ties": "ties", "last_days": "ties", "first_days": "ties"},
+    "formulas": {"check_formula": "plant formula", "atoms_of": "formula", "lots_of": "formula", "true_in": "formula world",
+                 "known": "formula answers"},
+    "cases": {"find": "plant lots formulas", "closed": "plant lots formulas tree", "way_rows": "plant lots asked", "way_ties": "asked"},
+    "papers": {"formula_of": "stock paper"},
+    "quarrels": {"least_quarrel": "plant lots fixed formulas"},
+    "asking": {"answer": "papers formula", "greatest_share": "papers content farms", "least_share": "papers content farms",
+               "last_day": "papers lot", "first_day": "papers lot"},
+    "claimtexts": {"read_claim": "text", "write_claim": "tree"},
+    "claims": {"check_claim": "tree", "claim_formula": "plant content claim"},
+    "judging": {"judge": "papers content claim"},
+    "leading": {"standard": "number", "leads": "plant first second", "alike": "plant first second", "order": "plant claims"},
+    "calls": {"calls": "house", "called_boxes": "house", "letters": "house"},
+    "trying": {"tried": "house acts"},
 }
 CLASSES = {
     "ratios": {"Ratio": ("above below", "__add__ __sub__ __mul__ __neg__ __abs__ __eq__ over less pair of")},
@@ -29,14 +44,33 @@ CLASSES = {
              "System": ("rows", "unknowns __add__ __len__ __iter__ __eq__ __contains__")},
     "ends": {"End": (None, "__bool__")},
     "clauses": {"Clauses": ("rows", "marks __add__ __len__ __iter__ __contains__ __eq__")},
+    "days": {"Ties": ("rows", "lots __add__ __len__ __iter__ __eq__ __contains__")},
+    "tables": {"Table": ("ties", "__getitem__ __iter__ __len__ __eq__")},
+    "worlds": {"World": ("plant rows", "lots __getitem__ share bears day __iter__ __contains__ __len__ __eq__ changed plain")},
+    "papers": {"Papers": ("stock", "put withdraw amend in_force formulas sealed next_number allowed __contains__ search copy_for opened")},
+    "claims": {"Claim": ("tree", "text __and__ __or__ __invert__ __eq__ __call__ read")},
+    "judging": {"Verdict": (None, "__bool__")},
+    "houses": {"News": (None, "__eq__"),
+               "House": ("plant", "do put_paper withdraw amend label bare send act acts opening stock_now papers_now label_of customer_of "
+                                  "verdict lore again opened copy __eq__")},
+    "calls": {"Call": (None, "")},
+    "trying": {"WhatIf": ("house", "__enter__ __exit__")},
 }
 METHODS = {
     "Stock": {"do": "deed", "level": "vessel", "clean": "vessel", "amount": "box", "mix": "thing", "touched": "thing",
               "content": "thing", "units": "lot", "opened": "plant state", "copy": "", "state": "", "standing": ""},
     "Ratio": {"over": "other", "less": "other", "of": "pair"},
     "Form": {"at": "point"},
+    "World": {"share": "lot farm", "bears": "lot trait", "day": "lot", "changed": "row", "plain": "plant lots"},
+    "Papers": {"put": "paper", "withdraw": "number", "amend": "number paper", "in_force": "", "formulas": "", "allowed": "", "search": "formulas",
+               "copy_for": "stock", "opened": "stock sealed papers next_number"},
+    "Claim": {"read": "text", "__call__": "plant content world"},
+    "House": {"do": "deed", "put_paper": "paper", "withdraw": "number", "amend": "number paper", "label": "box claim", "bare": "box",
+              "send": "box customer", "act": "act", "stock_now": "", "papers_now": "", "label_of": "box", "customer_of": "box", "verdict": "box",
+              "lore": "", "again": "plant acts", "opened": "plant state lore", "copy": ""},
 }
-PROPERTIES = {"Ratio": "pair", "Stock": "deeds opening", "System": "unknowns", "Clauses": "marks"}
+PROPERTIES = {"Ratio": "pair", "Stock": "deeds opening", "System": "unknowns", "Clauses": "marks", "Ties": "lots", "World": "lots",
+              "Papers": "sealed next_number", "Claim": "text", "House": "acts opening"}
 
 
 def parameters(thing):
@@ -55,7 +89,7 @@ class Interface(unittest.TestCase):
                     self.assertEqual(parameters(function), told.split())
 
     def test_generators(self):
-        for module, name in [("ways", "ways"), ("traces", "traces")]:
+        for module, name in [("ways", "ways"), ("traces", "traces"), ("calls", "calls")]:
             file = importlib.import_module(f"swornlots.{module}")
             self.assertTrue(inspect.isgeneratorfunction(vars(file)[name]))
 

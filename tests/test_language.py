@@ -29,7 +29,7 @@ copyright credits delattr dir eval exec exit gc getattr globals hasattr help id 
 vars sys format format_map""".split())
 BANNED_WORDS = set("""type typing typing_extensions enum Enum IntEnum StrEnum Flag IntFlag Generic Protocol ABC ABCMeta namedtuple
 NamedTuple TypedDict TYPE_CHECKING abstractmethod""".split())
-PROPERTIES = {"pair", "deeds", "opening", "unknowns", "marks"}
+PROPERTIES = {"pair", "deeds", "opening", "unknowns", "marks", "lots", "text", "sealed", "next_number", "acts"}
 PLAIN = (ast.Constant, ast.List, ast.Tuple, ast.Dict, ast.UnaryOp, ast.USub, ast.Load)
 
 
