@@ -20,9 +20,9 @@ def number_told(word):
 
 def share_told(word):
     """The share that the word tells, or None."""
-    above, slash, below = word.partition("/")
+    above, _, below = word.partition("/")
     first, second = number_told(above), number_told(below)
-    if slash == "" or first is None or second is None or second < 1 or first > second:
+    if first is None or second is None or second < 1 or first > second:
         return None
     return lowest(first, second)
 

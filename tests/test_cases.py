@@ -129,6 +129,31 @@ class Finding(Case):
             words.append(self.found(plant, lots, formulas))
         self.assertTrue(3 < words.count("tree") < 37, words.count("tree"))
 
+    def test_strict_bounds_of_different_width(self):
+        """Each of some shares is above the one before it, and all are below narrow bounds."""
+        lots = ["l%d" % k for k in range(1, 7)]
+        for order in (lots, lots[::-1], lots[3:] + lots[:3]):
+            east = [(lot, "east") for lot in order]
+            rising = [("not", share({a: 1, b: -1}, 0)) for a, b in zip(east, east[1:])]
+            for widths in ([1, 2, 3, 4, 5, 6], [6, 6, 6, 5, 5, 5], [2, 9, 2, 9, 2, 9], [1] * 6, [9, 8, 7, 6, 5, 1]):
+                narrow = [("not", share({unknown: 1}, Fraction(width, 1000))) for unknown, width in zip(east, widths)]
+                self.assertEqual(self.found(PLANT, lots, [("not", share({east[0]: -1}, 0)), *rising, *narrow]), "world")
+
+    def test_random_strict_bounds(self):
+        """Share atoms that are denied, so that a world must keep off all their bounds at once."""
+        random = Random(29)
+        words = []
+        for _ in range(300):
+            plant, lots = plant_of(random.randint(2, 4)), ["l1", "l2", "l3"]
+            formulas = []
+            for _ in range(random.randint(4, 12)):
+                atom = random_atom(random, lots, plant, ("share",))
+                parts = {unknown: Fraction(*fraction) for unknown, fraction in atom[1]}
+                near = sum(parts.values()) * Fraction(1, len(plant.farms)) + Fraction(1, random.randint(2, 60))
+                formulas.append(("not", share(parts, near)))
+            words.append(self.found(plant, lots, formulas))
+        self.assertTrue(words.count("world") > 150, words.count("world"))
+
     def test_long_integers(self):
         random = Random(26)
         words = []
@@ -275,6 +300,8 @@ class Trees(Case):
                     (*good[:7], (2, 4)), (*good[:6], (True, 1), half), (*good[:7], [1, 2])]:
             with self.subTest(bad=bad):
                 self.assertFalse(self.shuts(formulas, tree(bad)))
+        for word in ("price", "ring", "false", "", None, ("prices",)):
+            self.assertFalse(self.shuts(formulas, ("ask", most, ("ask", least, (word, good), ("false", 1)), ("false", 0))))
         # The rows of a way are those that were asked on it, in this order.
         turned = ("ask", least, ("ask", most, ("prices", (zero,) * 6 + (half, one)), ("false", 0)), ("false", 1))
         self.assertTrue(self.shuts(formulas, turned))

@@ -58,7 +58,7 @@ class Checking(unittest.TestCase):
             ("bears", "l1", "egg"), ("bears", "", "nuts"), ("bears", "l1"), ("bears", "l1", "nuts", True), ("bears", "or", "nuts"), ("bears", 1, "nuts"),
             ("bears", "l1", ["nuts"]), ("bears", "l1", None), ("days", "l1", "l1", 0), ("days", "", "", 0), ("days", "l1", "l2", True),
             ("days", "l1", "l2"), ("days", "l1", "l2", 1, 1), ("days", "l1", "L2", 1), ("days", "l1", "l2", "1"), ("days", "l1", "l2", (1, 1)),
-            ("least", "l1", ("east",), (1, 2)), ("",), (), None, True, 7, "nuts", [], ["bears", "l1", "nuts"], (NUTS,), (None, NUTS), ({}, ()),
+            ("least", "l1", ("east",), (1, 2)), ("apart", "l1", "l2", 1), ("day", "l1", "", 1), ("",), (), None, True, 7, "nuts", [], ["bears", "l1", "nuts"], (NUTS,), (None, NUTS), ({}, ()),
         ]:
             for formula in (bad, ("not", bad), ("and", (NUTS, bad)), ("or", (("not", ("and", (bad, NUTS))), NUTS))):
                 with self.subTest(formula=formula):
