@@ -184,18 +184,21 @@ class Search:
         """A clash with just one literal of the last decision, or, without any decision, with none at all."""
         level = len(self.starts)
         left = {literal: True for literal in clash.literals}
+        last = len([one for one in left if self.level_of[one // 2] == level])
         proof = clash.proof
         self.worth = self.worth + self.worth // 8 + 1
         for literal in reversed(list(self.trail)):
             if literal not in left:
                 continue
-            if level > 0 and len([one for one in left if self.level_of[one // 2] == level]) == 1:
+            if level > 0 and last == 1:
                 break
             atom = literal // 2
             self.scores[atom] += self.worth
             reason = self.reasons[atom]
-            left.update({one: True for one in reason.literals})
-            del left[literal], left[opposite_of(literal)]
+            del left[literal]
+            more = [one for one in reason.literals if one not in left and one // 2 != atom]
+            left.update({one: True for one in more})
+            last = last - 1 + len([one for one in more if self.level_of[one // 2] == level])
             proof = Ask(atom, proof, reason.proof) if literal & 1 == 1 else Ask(atom, reason.proof, proof)
         return Clash(list(left), proof)
 
