@@ -95,28 +95,26 @@ class Forks:
 
     def settle(self, number, value):
         """Sets the value of a fork, and of those around it that get the same value by it."""
+        self.known[number] = value
+        number = self.around[number]
         while number is not None:
+            self.counts[number][value] += 1
+            if self.known[number] is not None or not self.is_decided(number, value):
+                return
             self.known[number] = value
             number = self.around[number]
-            if number is None:
-                return
-            self.counts[number][value] += 1
-            if self.known[number] is not None:
-                return
-            if not self.is_decided(number, value):
-                return
 
     def unsettle(self, number):
         """Takes back the value of a fork, and of those around it that had the same value by it."""
         value = self.known[number]
+        self.known[number] = None
+        number = self.around[number]
         while number is not None:
-            self.known[number] = None
-            number = self.around[number]
-            if number is None:
-                return
             self.counts[number][value] -= 1
             if self.known[number] != value or self.is_decided(number, value):
                 return
+            self.known[number] = None
+            number = self.around[number]
 
     def is_decided(self, number, value):
         """Whether a fork has this value by what is in it."""

@@ -2,7 +2,8 @@
 
 For each lot the shares of all farms but the last one are unknowns from 0 on, which come to 1 at most. What atoms
 tell of sums of these are limits of variables: the unknowns themselves, and forms, sums of unknowns times integers.
-A row tells how often a variable of the basis, times a positive integer, has the other ones, the columns, in it.
+A row tells how often a variable of the basis, times a positive integer, has the columns, other variables, in it.
+A form without any limit has no row and, unless it is a column, is left out of everything.
 A limit is a pair of integers, units and arbitrarily small amounts; so many units as `unit` tells are 1.
 """
 
@@ -80,6 +81,7 @@ class Limits:
             self.rules[2 * number], self.rules[2 * number + 1] = rules_of(atom, farms)
         self.unit = 1
         self.variables = {}
+        self.forms = []
         self.lows, self.highs = [], []
         self.columns, self.wholes, self.smalls = [], [], []
         self.rows = {}
@@ -110,27 +112,42 @@ class Limits:
         lots = sorted({lot for form in forms for (lot, _), _ in form})
         sums = [tuple([((lot, farm), 1) for farm in self.farms[:-1]]) for lot in lots]
         for unknown in [unknown for form in sums for unknown, _ in form]:
-            self.variables[((unknown, 1),)] = len(self.lows)
-            self.columns.append(len(self.lows))
-            self.lows.append(((0, 0), None))
-            self.highs.append(None)
+            self.columns.append(len(self.forms))
             self.wholes.append(0)
             self.smalls.append(0)
+            self.add_form(((unknown, 1),), ((0, 0), None))
         for form in sums + forms:
             if form not in self.variables:
-                self.add_form(form)
+                self.add_form(form, None)
         for form in sums:
             self.highs[self.variables[form]] = ((self.unit, 0), None)
+            self.make_row(self.variables[form])
 
-    def add_form(self, form):
-        """Makes a variable of the basis for a form."""
-        row = [0] * len(self.columns)
-        for unknown, number in form:
-            row[self.variables[((unknown, 1),)]] = number
-        self.variables[form] = len(self.lows)
-        self.rows[len(self.lows)] = (1, row)
-        self.lows.append(None)
+    def add_form(self, form, low):
+        """Makes a variable for a form, with its low limit."""
+        self.variables[form] = len(self.forms)
+        self.forms.append(form)
+        self.lows.append(low)
         self.highs.append(None)
+
+    def make_row(self, variable):
+        """Makes the row of a variable that is neither a column nor in the basis."""
+        if variable in self.rows or variable in self.columns:
+            return
+        below, row = 1, [0] * len(self.columns)
+        for unknown, number in self.forms[variable]:
+            other, more = self.row_for(self.variables[((unknown, 1),)])
+            common = lcm(below, other)
+            factor, number = common // below, number * (common // other)
+            row = [own * factor + worth * number for own, worth in zip(row, more)]
+            below = common
+        self.rows[variable] = reduced_row(below, row)
+
+    def row_for(self, variable):
+        """The row of a variable with its integer, also if it is a column."""
+        if variable in self.rows:
+            return self.rows[variable]
+        return (1, [1 if other == variable else 0 for other in self.columns])
 
     def put(self, literal):
         """Sets what the literal tells; None, or a dict of prices that shut it with other literals."""
@@ -147,6 +164,7 @@ class Limits:
         if held is None or is_tighter(rule.limit, held[0], rule.is_low):
             mine[variable] = (rule.limit, literal)
             self.is_settled = False
+            self.make_row(variable)
             self.keep_column(variable)
         return None
 
@@ -156,6 +174,12 @@ class Limits:
         if told is not None:
             table, variable, held = told
             table[variable] = held
+            if variable in self.rows and not self.has_limit(variable):
+                del self.rows[variable]
+
+    def has_limit(self, variable):
+        """Whether a variable has any limit."""
+        return self.lows[variable] is not None or self.highs[variable] is not None
 
     def keep_column(self, variable):
         """Moves the value of a variable, if it is a column, to a limit that it breaks."""
@@ -200,8 +224,6 @@ class Limits:
         """The first variable of the basis that breaks a limit, and whether this is the low one; or None."""
         for variable in sorted(self.rows):
             low, high = self.lows[variable], self.highs[variable]
-            if low is None and high is None:
-                continue
             units, smalls, below = self.value_in_row(variable)
             if low is not None and (units, smalls) < (low[0][0] * below, low[0][1] * below):
                 return (variable, True)
@@ -252,12 +274,13 @@ class Limits:
         for other in list(self.rows):
             if self.rows[other][1][at] != 0:
                 self.rows[other] = replaced(self.rows[other], at, below, solved)
-        self.rows[entering] = (below, solved)
+        if self.has_limit(entering):
+            self.rows[entering] = (below, solved)
         self.columns[at] = variable
         self.wholes[at], self.smalls[at] = limit
 
     def all_values(self):
-        """The units and small amounts of all variables, each with the integer by which they are to be divided."""
+        """The units and small amounts of columns and of the basis, with the integer by which they are to be divided."""
         result = {variable: self.value_in_row(variable) for variable in self.rows}
         for at, variable in enumerate(self.columns):
             result[variable] = (self.wholes[at], self.smalls[at], 1)
@@ -300,12 +323,16 @@ def replaced(told, at, below, solved):
     factor, number = below // common, number // common
     result = [own * factor + number * other for own, other in zip(row, solved)]
     result[at] = number * solved[at]
-    divisor = divisor * factor
+    return reduced_row(divisor * factor, result)
+
+
+def reduced_row(divisor, row):
+    """The row of a variable with its integer, divided by what they have in common if they are great."""
     if divisor < SMALL_ENOUGH:
-        return (divisor, result)
+        return (divisor, row)
     common = divisor
-    for own in result:
-        common = gcd(common, own)
+    for number in row:
+        common = gcd(common, number)
         if common == 1:
-            return (divisor, result)
-    return (divisor // common, [own // common for own in result])
+            return (divisor, row)
+    return (divisor // common, [number // common for number in row])
