@@ -65,9 +65,14 @@ def room_behind_claim(thing, levels, room):
     return room
 
 
+def is_claim(thing):
+    """Whether the thing is a claim."""
+    return room_behind_claim(thing, MOST_CLAIM_LEVELS, MOST_PLAIN_CLAIMS) >= 0
+
+
 def check_claim_tree(tree):
     """Refuses what is no claim."""
-    if room_behind_claim(tree, MOST_CLAIM_LEVELS, MOST_PLAIN_CLAIMS) < 0:
+    if not is_claim(tree):
         raise NoClaim(tree)
 
 
@@ -83,8 +88,16 @@ def named_in(claim):
     return []
 
 
-def check_known(plant, claim):
-    """Refuses the first name in the claim that is no trait, or no farm, of the plant."""
+def unknown_in(plant, claim):
+    """The first name in the claim that is no trait, or no farm, of the plant; or None."""
     for kind, name in named_in(claim):
         if name not in (plant.traits if kind == "trait" else plant.farms):
-            raise Unknown(name)
+            return name
+    return None
+
+
+def check_known(plant, claim):
+    """Refuses the first name in the claim that is no trait, or no farm, of the plant."""
+    name = unknown_in(plant, claim)
+    if name is not None:
+        raise Unknown(name)

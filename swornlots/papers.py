@@ -240,10 +240,13 @@ class Papers:
         """Pairs of the numbers and the papers in force, ascending."""
         return tuple([(number, self.valid[number][0]) for number in sorted(self.valid)])
 
+    def said(self):
+        """A list of pairs of a paper and its formula: the sealed papers, then those in force."""
+        return [*self.old, *[self.valid[number] for number in sorted(self.valid)]]
+
     def formulas(self):
         """The formulas of the sealed papers, then those of the papers in force."""
-        told = [*self.old, *[self.valid[number] for number in sorted(self.valid)]]
-        return tuple([formula for _, formula in told])
+        return tuple([formula for _, formula in self.said()])
 
     def allowed(self):
         """An allowed world."""

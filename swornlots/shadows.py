@@ -132,11 +132,15 @@ def shadow(system, unknowns):
     point, _ = point_or_prices(system.rows, system.unknowns)
     if point is None:
         return System((NO_POINT,))
-    rows = lean_rows(system.rows)
     names = [unknown for unknown in system.unknowns if unknown not in unknowns]
+    return System(rows_without(lean_rows(system.rows), names))
+
+
+def rows_without(rows, names):
+    """Rows whose points are those of the rows, which have one, without the unknowns of these names."""
     while names:
         rows, names = without_one(rows, names)
-    return System(rows)
+    return rows
 
 
 def settled(row, values):

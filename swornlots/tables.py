@@ -41,19 +41,30 @@ def least_from(steps, days, start):
     return {name: cost - days[start] + days[name] for name, cost in found.items()}
 
 
+def least_between(rows, days, names):
+    """A dict with the least n of the ties that follow from rows with days, by the first and the second of the names."""
+    steps = steps_of(rows)
+    result = {}
+    for first in names:
+        told = least_from(steps, days, first)
+        for second in names:
+            if second in told:
+                result[(first, second)] = told[second]
+    return result
+
+
+def ties_between(least):
+    """The ties between different names in such a dict."""
+    return tuple([(first, second, n) for (first, second), n in least.items() if first != second])
+
+
 class Table:
     """For each two names of ties the least n for which the tie with these names follows."""
 
     def __init__(self, ties):
-        days = days_of(ties)
-        steps = steps_of(ties.rows)
         self.names = ties.lots
-        self.least = {}
-        for first in ("", *self.names):
-            told = least_from(steps, days, first)
-            for second in sorted(told):
-                self.least[(first, second)] = told[second]
-        self.rows = tuple([(first, second, n) for (first, second), n in self.least.items() if first != second])
+        self.least = least_between(ties.rows, days_of(ties), ("", *self.names))
+        self.rows = ties_between(self.least)
 
     def __getitem__(self, at):
         for name in at:
@@ -82,11 +93,15 @@ def shadow_ties(ties, lots):
 
 def lean_ties(ties):
     """The ties without those that follow from the others, from the first to the last."""
-    days = days_of(ties)
+    return lean_rows_of_ties(ties.rows, days_of(ties))
+
+
+def lean_rows_of_ties(rows, days):
+    """The same for the rows of ties with days that keep them."""
     kept = []
-    for number, row in enumerate(ties.rows):
+    for number, row in enumerate(rows):
         first, second, n = row
-        told = least_from(steps_of([*kept, *ties.rows[number + 1:]]), days, first)
+        told = least_from(steps_of([*kept, *rows[number + 1:]]), days, first)
         if second not in told or told[second] > n:
             kept.append(row)
     return tuple(kept)

@@ -7,6 +7,8 @@ import unittest
 import warnings
 from pathlib import Path
 
+from swornlots import errors
+
 PACKAGE = Path(__file__).resolve().parent.parent / "swornlots"
 FILES = sorted(PACKAGE.rglob("*.py"))
 BUILTINS = set("""len range enumerate zip min max sum abs sorted reversed int str bool bytes list tuple dict set isinstance ord repr any
@@ -29,7 +31,9 @@ copyright credits delattr dir eval exec exit gc getattr globals hasattr help id 
 vars sys format format_map""".split())
 BANNED_WORDS = set("""type typing typing_extensions enum Enum IntEnum StrEnum Flag IntFlag Generic Protocol ABC ABCMeta namedtuple
 NamedTuple TypedDict TYPE_CHECKING abstractmethod""".split())
-PROPERTIES = {"pair", "deeds", "opening", "unknowns", "marks", "lots", "text", "sealed", "next_number", "acts"}
+PROPERTIES = {"pair", "deeds", "opening", "unknowns", "marks", "lots", "text", "sealed", "next_number", "acts",
+              "packs", "lines"}
+OWN_ERRORS = {name for name, made in vars(errors).items() if isinstance(made, type)}
 PLAIN = (ast.Constant, ast.List, ast.Tuple, ast.Dict, ast.UnaryOp, ast.USub, ast.Load)
 
 
@@ -245,7 +249,7 @@ class Language(unittest.TestCase):
             if isinstance(node, ast.Raise):
                 self.assertTrue(isinstance(node.exc, ast.Call) and isinstance(node.exc.func, ast.Name), (path, node.lineno))
             else:
-                self.assertEqual(ast.unparse(node.type), "LotError", (path, node.lineno))
+                self.assertIn(ast.unparse(node.type), OWN_ERRORS, (path, node.lineno))
 
 
 if __name__ == "__main__":
