@@ -5,7 +5,7 @@ from swornlots.days import days_or_ring
 from swornlots.formulas import lots_in_turn
 from swornlots.houses import House
 from swornlots.leaning import lean_rows
-from swornlots.masks import lean_primes, without_marks
+from swornlots.masks import without_marks
 from swornlots.ratios import opposite
 from swornlots.rows import MINUS_ONE, multiplied
 from swornlots.shadows import rows_without
@@ -67,7 +67,7 @@ def rows_for(plant, rows, staying, leaving):
     left = rows_without([*lot_rows(plant, list(beside)), *tied], names)
     free = [row for row in rows if row not in tied]
     base = lot_rows(plant, staying)
-    return [row for row in lean_rows([*free, *left, *base]) if row not in base]
+    return lean_rows([row for row in [*free, *left] if row not in base], base)
 
 
 def row_papers(plant, formulas, staying, leaving):
@@ -110,7 +110,7 @@ def clause_papers(formulas, leaving):
     marks = sorted({mark for pairs in told for mark, _ in pairs})
     bits = {mark: 1 << number for number, mark in enumerate(marks)}
     gone = sum([bit for (lot, _), bit in bits.items() if lot in leaving])
-    rows = lean_primes(without_marks([mask_of(pairs, bits) for pairs in told], gone))
+    rows = without_marks([mask_of(pairs, bits) for pairs in told], gone)
     clauses = [clause_of(row, bits) for row in rows]
     return [("clause", clause) for _, clause in sorted([(len(clause), clause) for clause in clauses])]
 

@@ -6,11 +6,14 @@ from swornlots.rows import unknowns_in
 from swornlots.tableaus import Tableau, limit_of, negated, pivoted, stopping
 
 
-def lean_rows(rows):
-    """Those of the rows that are left when each that follows from all others that still stand is left out."""
-    tableau = Tableau(rows)
+def lean_rows(rows, beside=()):
+    """Those of the rows that are left when each that follows from all others that still stand is left out.
+
+    The rows beside them stand all the time.
+    """
+    tableau = Tableau([*rows, *beside])
     if tableau.settle() is not None:
-        return lean_shut_rows(rows)
+        return lean_shut_rows(rows, beside)
     basis = tableau.basis
     kept = []
     for number, row in enumerate(rows):
@@ -25,19 +28,20 @@ def lean_rows(rows):
     return tuple(kept)
 
 
-def lean_shut_rows(rows):
+def lean_shut_rows(rows, beside):
     """The same for rows without a point, from which a row is left out if the others have none, either."""
-    numbers = list(range(len(rows)))
-    prices = prices_by_number(rows, numbers)
+    told = [*rows, *beside]
+    numbers = list(range(len(told)))
+    prices = prices_by_number(told, numbers)
     for number in range(len(rows)):
         others = [other for other in numbers if other != number]
         if prices[number] != ZERO:
-            fewer = prices_by_number(rows, others)
+            fewer = prices_by_number(told, others)
             if fewer is None:
                 continue
             prices = fewer
         numbers = others
-    return tuple([rows[number] for number in numbers])
+    return tuple([rows[number] for number in numbers if number < len(rows)])
 
 
 def prices_by_number(rows, numbers):

@@ -3,6 +3,9 @@
 Each mark has a bit. A clause is the pair of the bits of its marks with the sense True and of those with False.
 """
 
+# How many times as many clauses there can be before they are made lean again.
+GROWTH = 2
+
 
 def less(bits, others):
     """The bits that are not among the others."""
@@ -57,44 +60,43 @@ def work_of(bit, rows):
     return above * below - above - below
 
 
-def without_marks(rows, bits):
-    """Clauses that are kept by answers exactly if some answers for the marks of these bits keep the given ones."""
-    rows = shortest(rows)
-    left = bits_in(bits)
-    while left:
-        bit = min(left, key=lambda one: work_of(one, rows))
-        others = [row for row in rows if (row[0] | row[1]) & bit == 0]
-        rows = shortest(others + joined_by(bit, rows))
-        left = [other for other in left if other != bit]
-    return rows
+def opened_rows(rows, yes, no):
+    """What is open of clauses where the marks of some bits are answered yes or no, with all answers that come of it.
 
-
-def opened_row(row, yes, no):
-    """What is open of a clause where the marks of some bits are answered yes or no; None if it is kept."""
-    if row[0] & yes or row[1] & no:
-        return None
-    return (less(row[0], no), less(row[1], yes))
+    Clauses with one mark left force its answer; None if a clause is broken.
+    """
+    while True:
+        before = (yes, no)
+        left = []
+        for above, below in rows:
+            if above & yes or below & no:
+                continue
+            above, below = less(above, no), less(below, yes)
+            bits = above | below
+            if bits == 0:
+                return None
+            if bits == lowest_bit(bits):
+                yes, no = yes | above, no | below
+            else:
+                left.append((above, below))
+        rows = left
+        if before == (yes, no):
+            return (rows, yes, no)
 
 
 def can_keep(rows, yes, no):
     """Whether some answers, yes and no for the marks of these bits, keep all clauses."""
-    while True:
-        told = [opened_row(row, yes, no) for row in rows]
-        rows = [row for row in told if row is not None]
-        if not rows:
-            return True
-        row = min(rows, key=size_of)
-        if row == (0, 0):
-            return False
-        bit = lowest_bit(row[0] | row[1])
-        is_yes = row[0] & bit != 0
-        if size_of(row) > 1 and can_keep(rows, yes | bit if is_yes else yes, no if is_yes else no | bit):
-            return True
-        # The mark has the other answer, unless the clause leaves it no choice.
-        if (size_of(row) == 1) == is_yes:
-            yes = yes | bit
-        else:
-            no = no | bit
+    told = opened_rows(rows, yes, no)
+    if told is None:
+        return False
+    rows, yes, no = told
+    if not rows:
+        return True
+    above, below = min(rows, key=size_of)
+    bit = lowest_bit(above | below)
+    if above & bit:
+        return can_keep(rows, yes | bit, no) or can_keep(rows, yes, no | bit)
+    return can_keep(rows, yes, no | bit) or can_keep(rows, yes | bit, no)
 
 
 def follows_from(row, rows):
@@ -119,3 +121,20 @@ def lean_primes(rows):
         if follows_from(row, others):
             found = others
     return found
+
+
+def without_marks(rows, bits):
+    """Primes of what clauses say of all other marks than those of these bits, none of which follows from the others."""
+    rows = lean_primes(rows)
+    many = len(rows)
+    left = bits_in(bits)
+    while left:
+        bit = min(left, key=lambda one: work_of(one, rows))
+        others = [row for row in rows if (row[0] | row[1]) & bit == 0]
+        rows = shortest(others + joined_by(bit, rows))
+        left = [other for other in left if other != bit]
+        if len(rows) > GROWTH * many:
+            # Primes are shorter, so that less comes of the next mark.
+            rows = lean_primes(rows)
+            many = len(rows)
+    return lean_primes(rows)
