@@ -46,8 +46,8 @@ class Clearer:
 
     def search(self, numbers, box):
         """A world in which these tests answer yes and the label of the box is false, and None; or None and a tree."""
-        asked = [self.looks[number] for number in numbers]
-        return self.papers.settled(*asked, ("not", self.labels[box]))
+        formulas = [*[self.looks[number] for number in numbers], ("not", self.labels[box])]
+        return self.papers.settled(*formulas)
 
     def is_refuted(self, numbers):
         """Whether one of the worlds that were found answers yes to all these tests."""

@@ -11,8 +11,9 @@ FIRST_NUMBER = 100
 
 def fresh_names(plant, many):
     """So many ascending names that no vessel has."""
-    numbers = range(FIRST_NUMBER, FIRST_NUMBER + many + len(plant))
-    return [name for name in ["x" + str(number) for number in numbers] if name not in plant][:many]
+    last = FIRST_NUMBER + many + len(plant)
+    names = ["x" + str(number) for number in range(FIRST_NUMBER, last)]
+    return [name for name in names if name not in plant][:many]
 
 
 def standings(plant):

@@ -53,7 +53,8 @@ class Settler:
         """Notes all answers that begin with these senses; stops as soon as two worlds are apart."""
         if self.apart is not None:
             return
-        world, _ = self.papers.settled(*turned(self.looks, senses))
+        formulas = turned(self.looks, senses)
+        world, _ = self.papers.settled(*formulas)
         if world is None:
             return
         if len(senses) < len(self.looks):
@@ -68,7 +69,8 @@ class Settler:
     def compare_with(self, world, senses, told):
         """Looks for a world with the same answers as this one in which not the same labels are true."""
         others = turned(self.labels, [not sense for sense in told])
-        other, _ = self.papers.settled(*turned(self.looks, senses), ("or", tuple(others)))
+        formulas = [*turned(self.looks, senses), ("or", tuple(others))]
+        other, _ = self.papers.settled(*formulas)
         if other is None:
             return
         for first, second in zip(told, truths(self.labels, other)):

@@ -33,6 +33,23 @@ FUNCTIONS = {
     "leading": {"standard": "number", "leads": "plant first second", "alike": "plant first second", "order": "plant claims"},
     "calls": {"calls": "house", "called_boxes": "house", "letters": "house"},
     "trying": {"tried": "house acts"},
+    "looks": {"check_tests": "house boxes tests", "test_formula": "house test", "answers_in": "house tests world"},
+    "clearing": {"clearing_of": "house boxes tests"},
+    "settling": {"settling_of": "house boxes tests"},
+    "recipes": {"row_of": "recipe stock lots boxes"},
+    "scripts": {"write_recipe": "recipe", "read_recipe": "lines"},
+    "maps": {"map_of": "plant recipe standing", "can_run": "plant recipe standing", "standings": "plant"},
+    "pledges": {"standard_stock": "plant recipe standing", "judge_box": "plant recipe standing needs pledges box claim",
+                "judge_rest": "plant recipe standing needs pledges vessel claim", "hold_up": "plant recipes needs pledges"},
+    "partings": {"parting": "plant recipe other standing", "alike_recipes": "plant recipe other"},
+    "menus": {"check_plain": "claim", "can_break": "plant claim inside around"},
+    "dirts": {"first_dirt": "plant", "runs_from": "menu dirt", "run_in": "menu entry dirt", "dirts": "menu"},
+    "walking": {"walk": "menu claim", "judge_table": "menu claim table"},
+    "twins": {"compare_menus": "menu other"},
+    "washing": {"washing_of": "menu orders ties prices", "judge_worths": "menu orders worths ties prices"},
+    "plaintexts": {"write_plain": "value", "read_plain": "text"},
+    "books": {"write_book": "house", "read_book": "lines"},
+    "cutting": {"living": "house", "dropped": "house", "cut": "house", "shadow_papers": "house"},
 }
 CLASSES = {
     "ratios": {"Ratio": ("above below", "__add__ __sub__ __mul__ __neg__ __abs__ __eq__ over less pair of")},
@@ -55,6 +72,15 @@ CLASSES = {
                                   "verdict lore again opened copy __eq__")},
     "calls": {"Call": (None, "")},
     "trying": {"WhatIf": ("house", "__enter__ __exit__")},
+    "clearing": {"Clearing": (None, "__bool__")},
+    "settling": {"Settling": (None, "__bool__ __call__")},
+    "recipes": {"Recipe": ("slots steps", "packs __eq__ __call__")},
+    "maps": {"Map": (None, "__mul__ __eq__ put_on")},
+    "menus": {"Menu": ("plant entries", "__len__ __iter__ __getitem__ __eq__")},
+    "walking": {"Walk": (None, "__bool__")},
+    "twins": {"Twins": (None, "__bool__")},
+    "washing": {"Washing": (None, "__bool__")},
+    "books": {"Book": ("house", "act lines with_acts __len__ __contains__ __eq__")},
 }
 METHODS = {
     "Stock": {"do": "deed", "level": "vessel", "clean": "vessel", "amount": "box", "mix": "thing", "touched": "thing",
@@ -68,9 +94,14 @@ METHODS = {
     "House": {"do": "deed", "put_paper": "paper", "withdraw": "number", "amend": "number paper", "label": "box claim", "bare": "box",
               "send": "box customer", "act": "act", "stock_now": "", "papers_now": "", "label_of": "box", "customer_of": "box", "verdict": "box",
               "lore": "", "again": "plant acts", "opened": "plant state lore", "copy": ""},
+    "Settling": {"__call__": "world"},
+    "Recipe": {"__call__": "stock lots boxes"},
+    "Map": {"put_on": "lots rests"},
+    "Book": {"act": "act", "with_acts": "acts"},
 }
 PROPERTIES = {"Ratio": "pair", "Stock": "deeds opening", "System": "unknowns", "Clauses": "marks", "Ties": "lots", "World": "lots",
-              "Papers": "sealed next_number", "Claim": "text", "House": "acts opening"}
+              "Papers": "sealed next_number", "Claim": "text", "House": "acts opening",
+              "Recipe": "packs", "Book": "lines"}
 
 
 def parameters(thing):
@@ -89,9 +120,20 @@ class Interface(unittest.TestCase):
                     self.assertEqual(parameters(function), told.split())
 
     def test_generators(self):
-        for module, name in [("ways", "ways"), ("traces", "traces"), ("calls", "calls")]:
+        for module, name in [("ways", "ways"), ("traces", "traces"), ("calls", "calls"), ("dirts", "dirts")]:
             file = importlib.import_module(f"swornlots.{module}")
             self.assertTrue(inspect.isgeneratorfunction(vars(file)[name]))
+
+    def test_keywords(self):
+        file = importlib.import_module("swornlots.washing")
+        for name in ("washing_of", "judge_worths"):
+            told = inspect.signature(vars(file)[name]).parameters
+            self.assertEqual([told[word].kind for word in ("ties", "prices")], [inspect.Parameter.KEYWORD_ONLY] * 2)
+            self.assertEqual((told["ties"].default, told["prices"].default), ((), inspect.Parameter.empty))
+
+    def test_every_file_of_the_document_is_there(self):
+        for module in {**FUNCTIONS, **CLASSES}:
+            importlib.import_module(f"swornlots.{module}")
 
     def test_classes(self):
         for module, classes in CLASSES.items():

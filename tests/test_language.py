@@ -196,6 +196,16 @@ class Language(unittest.TestCase):
             if isinstance(node.func, ast.Name) and node.func.id in ("any", "all", "sum"):
                 self.assertIsInstance(node.args[0], ast.ListComp, where)
 
+    def test_stars_in_calls(self):
+        """A star stands before a name or an attribute off a name; so does what stands behind it, or it is a literal of such."""
+        plain = (ast.Name, ast.Attribute, ast.Constant, ast.Tuple, ast.List, ast.Load)
+        for path, node in self.nodes(ast.Call):
+            stars = [k for k, part in enumerate(node.args) if isinstance(part, ast.Starred)]
+            if stars:
+                for part in [*node.args[stars[0]:], *[told.value for told in node.keywords]]:
+                    inner = part.value if isinstance(part, ast.Starred) else part
+                    self.assertTrue(all(isinstance(one, plain) for one in ast.walk(inner)), (path, node.lineno))
+
     def test_sets(self):
         """A set stands in sorted, in len, behind in, or is assigned to a name once."""
         for path, tree in self.each():

@@ -4,11 +4,15 @@ import unittest
 from fractions import Fraction
 
 from swornlots.asking import answer, greatest_share, least_share
+from swornlots.books import read_book, write_book
 from swornlots.calls import called_boxes, calls, letters
 from swornlots.claims import Claim, claim_formula
+from swornlots.clearing import clearing_of
+from swornlots.cutting import cut
 from swornlots.errors import Unsure
 from swornlots.houses import House, News
 from swornlots.plants import Plant
+from swornlots.settling import settling_of
 from swornlots.ways import ways
 
 
@@ -51,6 +55,22 @@ class SmallCase(unittest.TestCase):
         # As the document tells it.
         self.assertEqual((call.world.share("l1", "east"), call.world.share("l2", "east")), ((0, 1), (3, 4)))
         self.assertTrue(House.again(plant, house.acts) == house)
+        self.assertTrue(read_book(write_book(house)) == house)
+        self.told_by_a_test_and_a_cut(house)
+
+    def told_by_a_test_and_a_cut(self, house):
+        """What can be asked of the box that is called back, before and behind a cut."""
+        claim = house.label_of("b2")
+        for told in (house, cut(house), read_book(write_book(cut(house)))):
+            self.assertEqual((called_boxes(told), letters(told)), (("b2",), (("ann", ("b2",)),)))
+            clearing = clearing_of(told, ["b2"], [(9, "b2", claim), (4, "kettle", ("least", (3, 5), ("east",))), (1, "kettle", ("free", "nuts"))])
+            self.assertEqual((clearing.tests, clearing.price), ((1,), 4))
+            self.assertEqual(settling_of(told, ["b2"], [(9, "b2", claim)]).plan, ("ask", 0, ("end", ("sure",)), ("end", ("never",))))
+            papers = told.papers_now()
+            self.assertEqual(least_share(papers, told.stock_now().content("b2"), ("east",))[0], (9, 16))
+            self.assertEqual(answer(papers, ("bears", "l2", "nuts")), "never")
+            self.assertTrue(told.put_paper(("least", "l1", ("east",), (3, 20))) == News(3, (), ("b2",)))
+            self.assertEqual(told.withdraw(3).called, ("b2",))
 
 
 if __name__ == "__main__":
