@@ -1,6 +1,6 @@
 """Plants, recipes and stocks for the tests, and random ones."""
 
-from swornlots.errors import LotError
+from swornlots.errors import BadRecipe, LotError
 from swornlots.plants import Plant
 from swornlots.recipes import Recipe
 from swornlots.stocks import Stock
@@ -34,6 +34,15 @@ def random_steps(random, slots, vessels, depth=0, most=6):
 
 def random_recipe(random, plant, slots=None):
     """A recipe that often, but not always, can be run; most of them drain all vessels at the end."""
+    while True:
+        try:
+            return tried_recipe(random, plant, slots)
+        except BadRecipe:
+            # It had too many steps.
+            pass
+
+
+def tried_recipe(random, plant, slots):
     vessels = list(plant)
     slots = ("s", "t", "u", "v")[:random.randint(0, 3)] if slots is None else slots
     steps = random_steps(random, slots, vessels)
