@@ -45,6 +45,11 @@ def lots_of_row(row):
     return [lot for (lot, _), _ in row[0]]
 
 
+def is_about(row, lots):
+    """Whether a row has one of the lots."""
+    return any([lot in lots for lot in lots_of_row(row)])
+
+
 def lots_beside(rows, lots):
     """The lots, and all others that rows tie to them, however far round."""
     found = {lot: True for lot in lots}
@@ -52,20 +57,21 @@ def lots_beside(rows, lots):
     while many < len(found):
         many = len(found)
         for row in rows:
-            told = lots_of_row(row)
-            if any([lot in found for lot in told]):
-                found.update({lot: True for lot in told})
+            if is_about(row, found):
+                found.update({lot: True for lot in lots_of_row(row)})
     return found
 
 
 def rows_for(plant, rows, staying, leaving):
     """Rows of the lots that stay which tell the same of their shares as the rows do of all lots."""
-    told_of = [lot for lot in leaving if any([lot in lots_of_row(row) for row in rows])]
-    beside = lots_beside(rows, told_of)
-    tied = [row for row in rows if any([lot in beside for lot in lots_of_row(row)])]
-    names = [(lot, farm) for lot in told_of for farm in plant.farms]
+    linked = lots_beside(rows, staying)
+    # Of lots that nothing ties to those that stay, nothing is left to say.
+    going = [lot for lot in leaving if lot in linked]
+    beside = lots_beside(rows, going)
+    names = [(lot, farm) for lot in going for farm in plant.farms]
+    tied = [row for row in rows if is_about(row, beside)]
     left = rows_without([*lot_rows(plant, list(beside)), *tied], names)
-    free = [row for row in rows if row not in tied]
+    free = [row for row in rows if is_about(row, linked) and not is_about(row, beside)]
     base = lot_rows(plant, staying)
     return lean_rows([row for row in [*free, *left] if row not in base], base)
 

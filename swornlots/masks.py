@@ -26,6 +26,11 @@ def bits_in(bits):
     return result
 
 
+def marks_of(row):
+    """The bits of all marks of a clause."""
+    return row[0] | row[1]
+
+
 def size_of(row):
     """How many marks a clause has."""
     return len(bits_in(row[0])) + len(bits_in(row[1]))
@@ -106,7 +111,7 @@ def follows_from(row, rows):
 
 def prime_of(row, rows):
     """A prime of the clauses, all of which stands in this one that follows from them."""
-    for bit in bits_in(row[0] | row[1]):
+    for bit in bits_in(marks_of(row)):
         fewer = (less(row[0], bit), less(row[1], bit))
         if follows_from(fewer, rows):
             row = fewer
@@ -123,14 +128,30 @@ def lean_primes(rows):
     return found
 
 
+def linked_to(bits, rows):
+    """The bits, and all others that clauses tie to them, however far round."""
+    before = None
+    while before != bits:
+        before = bits
+        for row in rows:
+            if marks_of(row) & bits:
+                bits = bits | marks_of(row)
+    return bits
+
+
 def without_marks(rows, bits):
     """Primes of what clauses say of all other marks than those of these bits, none of which follows from the others."""
-    rows = lean_primes(rows)
+    staying = 0
+    for row in rows:
+        staying = staying | less(marks_of(row), bits)
+    linked = linked_to(staying, rows)
+    # Of marks that nothing ties to those that stay, nothing is left to say.
+    rows = lean_primes([row for row in rows if marks_of(row) & linked])
     many = len(rows)
     left = bits_in(bits)
     while left:
         bit = min(left, key=lambda one: work_of(one, rows))
-        others = [row for row in rows if (row[0] | row[1]) & bit == 0]
+        others = [row for row in rows if marks_of(row) & bit == 0]
         rows = shortest(others + joined_by(bit, rows))
         left = [other for other in left if other != bit]
         if len(rows) > GROWTH * many:

@@ -15,6 +15,7 @@ from swornlots.asking import first_day, greatest_share, last_day, least_share
 from swornlots.books import read_book, write_book
 from swornlots.calls import called_boxes, calls, letters
 from swornlots.cases import find, way_rows
+from swornlots.clauses import Clauses
 from swornlots.clearing import clearing_of
 from swornlots.cutting import cut, dropped, living, shadow_papers
 from swornlots.days import Ties
@@ -24,10 +25,12 @@ from swornlots.houses import House
 from swornlots.papers import formula_of
 from swornlots.plants import Plant
 from swornlots.points import solve
+from swornlots.primes import primes, say_same, shadow_clauses
 from swornlots.rows import System, against
 from swornlots.settling import settling_of
+from swornlots.shadows import follows, shadow
 from swornlots.stocks import Stock
-from swornlots.tables import Table
+from swornlots.tables import Table, shadow_ties
 from swornlots.worlds import World
 from test_claimtexts import random_claim
 from test_houses import told_by
@@ -166,6 +169,15 @@ def free_of_says(house):
     papers = house.papers_now()
     told = [*papers.sealed, *[paper for _, paper in papers.in_force()]]
     return [formula for paper, formula in zip(told, papers.formulas()) if paper[0] != "says"]
+
+
+def clause_of(formula):
+    """The clause of the formula of a paper about traits."""
+    if formula[0] == "bears":
+        return ((formula[1:], True),)
+    if formula[0] == "not":
+        return ((formula[1][1:], False),)
+    return tuple(pair for part in formula[1] for pair in clause_of(part))
 
 
 def fixed(plant, world):
@@ -331,6 +343,40 @@ class Sealed(unittest.TestCase):
                 if house.stock_now().lot_names():
                     some_papers(random, house, 4)
         self.assertTrue(min(found.get(word, 0) for word in (*WORDS, "dropped")) > 20, found)
+
+    def test_against_the_shadows(self):
+        """Within the bounds of [11], [16] and [20] the sealed papers say the same as the shadows of systems, clauses and ties."""
+        random = Random(7)
+        found = {word: 0 for word in WORDS[:3]}
+        for _ in range(60):
+            house = House(PLANT)
+            for k in range(1, 5):
+                house.do(("take", f"l{k}", "kettle", 10))
+            for _ in range(14):
+                paper = random_paper(random, house.stock_now())
+                if paper[0] not in ("says", "clear", "found", "measured"):
+                    outcome(lambda: house.put_paper(paper))
+            house.do(("wash", "kettle"))
+            for k in random.sample(range(1, 5), 2):
+                house.do(("take", f"l{k}", "pot", 5))
+            staying = living(house)[1]
+            formulas = free_of_says(house)
+            sealed = {word: [paper for paper in shadow_papers(house) if paper[0] == word] for word in WORDS}
+            shares = tuple((formula, True) for formula in formulas if formula[0] == "share")
+            names = tuple((lot, farm) for lot in staying for farm in PLANT.farms)
+            told = shadow(way_rows(PLANT, house.stock_now().lot_names(), shares), names)
+            again = way_rows(PLANT, staying, tuple((("share", *paper[1:]), True) for paper in sealed["row"]))
+            for first, second in ((told, again), (again, told)):
+                self.assertTrue(all(follows(first, row) is None for row in second))
+            clauses = Clauses([clause_of(formula) for formula in formulas if formula[0] not in ("share", "days")])
+            self.assertLessEqual({paper[1] for paper in sealed["clause"]}, set(primes(clauses)))
+            marks = tuple((lot, trait) for lot in staying for trait in PLANT.traits)
+            self.assertTrue(say_same(Clauses(shadow_clauses(clauses, marks)), Clauses([paper[1] for paper in sealed["clause"]])))
+            ties = Ties([formula[1:] for formula in formulas if formula[0] == "days"])
+            self.assertTrue(Table(Ties(shadow_ties(ties, staying))) == Table(Ties([paper[1:] for paper in sealed["apart"]])))
+            for word in found:
+                found[word] += len(sealed[word])
+        self.assertGreater(min(found.values()), 20, found)
 
     def test_beyond_bounds(self):
         """More than 12 marks, 60 clauses, and 200 rows with those of the shares."""
