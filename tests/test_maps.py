@@ -105,6 +105,17 @@ class Maps(unittest.TestCase):
             made = map_of(plant, Recipe(("s",), (("take", "s", names[0], 30), ("pack", names[0], 20), ("drain", names[0]), ("wash", names[1]))), names)
             self.assertEqual(made.boxes, ((20, (((S0, (3, 4)), (("rest", names[0]), (1, 4))), (S0, ("rest", names[0])))),))
 
+    def test_a_keep_of_1(self):
+        plant = plant_with((("a", 5, 1), ("b", 5, 0)))
+        made = map_of(plant, Recipe(("s",), (("take", "s", "a", 3), ("pack", "a", 3), ("take", "s", "b", 1), ("pack", "b", 1))), ("a", "b"))
+        rest = ("rest", "a")
+        self.assertEqual(made.rests, (("a", (((S0, (3, 4)), (rest, (1, 4))), (S0, rest))), ("b", ((), (S0, ("rest", "b"))))))
+
+    def test_many_boxes_from_a_standing(self):
+        recipe = Recipe(("s",), (("take", "s", "kettle", 90), ("repeat", 16, (("pack", "kettle", 1),)), ("drain", "kettle")))
+        for standing in [("kettle",), ("kettle", "pot", "tub")]:
+            self.assertEqual(len(map_of(PLANT, recipe, standing).boxes), 16)
+
     def test_many_sources(self):
         vessels = tuple((f"v{k}", 1000, k) for k in range(6))
         plant = plant_with(vessels)
@@ -192,6 +203,21 @@ class Products(unittest.TestCase):
         for other in (first, second, both * second, None, 7):
             self.assertFalse(both == other)
         self.assertEqual((both * second).runs, 3)
+
+    def test_each_attribute_counts(self):
+        """Maps that differ in one attribute are not equal."""
+        wash = Recipe((), (("wash", "kettle"),))
+        fills = {}
+        for slot, pack in (("s", 5), ("s", 6), ("t", 5)):
+            fills[slot, pack] = map_of(PLANT, Recipe(("s", "t"), (("take", slot, "kettle", 30), ("pack", "kettle", pack), ("wash", "kettle"), ("take", "s", "kettle", 30), ("drain", "kettle"))), ())
+        clean, washed = map_of(PLANT, wash, ()), map_of(PLANT, wash, ("kettle",))
+        rests = [map_of(PLANT, Recipe(("s", "t"), (("take", slot, "kettle", 30), ("drain", "kettle"))), ()) for slot in "st"]
+        ends = [map_of(PLANT, Recipe(("s",), (("take", "s", vessel, 30), ("drain", vessel))), ()) for vessel in ("kettle", "tub")]
+        for first, second, names in [(clean, washed, {"start"}), (clean, clean * clean, {"runs"}), (fills["s", 5], fills["s", 6], {"boxes"}), (fills["s", 5], fills["t", 5], {"boxes"}),
+                                     (*rests, {"rests"}), (*ends, {"end", "rests"})]:
+            self.assertEqual({name for name in ("start", "end", "runs", "boxes", "rests") if getattr(first, name) != getattr(second, name)}, names)
+            self.assertFalse(first == second)
+            self.assertFalse(second == first)
 
     def test_rows_of_runs(self):
         random = Random(6)

@@ -81,6 +81,8 @@ class Partings(unittest.TestCase):
         first = recipe(TAKE, ("take", "s", "tub", 5), END)
         self.both(first, recipe(("take", "t", "kettle", 30), ("take", "t", "tub", 5), END), ("rest", "kettle"))
         self.both(first, recipe(TAKE, ("take", "t", "tub", 5), END), ("rest", "tub"))
+        small = plant_with((("a", 50, 1),))
+        self.both(recipe(("take", "s", "a", 5), ("drain", "a")), recipe(("take", "t", "a", 5), ("drain", "a")), ("rest", "a"), plant=small)
         # The pot has the keep 0: no claim can be made of it.
         self.both(recipe(("take", "s", "pot", 5), ("drain", "pot")), recipe(("take", "t", "pot", 5), ("drain", "pot")), None)
         self.assertFalse(map_of(PLANT, recipe(("take", "s", "pot", 5), ("drain", "pot")), ()) == map_of(PLANT, recipe(("take", "t", "pot", 5), ("drain", "pot")), ()))

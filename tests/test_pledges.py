@@ -33,6 +33,7 @@ class Standard(unittest.TestCase):
         half = (1, 2)
         self.assertEqual(rests, (((("a0", half), ("b0", half)), ("a0", "b0", "c0")), ((), ("a1", "b1", "c1")), ((("a2", half), ("b2", half)), ("a2", "b2", "c2"))))
         self.assertEqual(standard_stock(PLANT, BOTH, ("tub",)), (("s0", "s1"), (rests[2],)))
+        self.assertEqual(standard_stock(plant_with((("a", 5, 1),)), FILL, ("a",))[1], (rests[0],))
 
 
 class Judged(unittest.TestCase):

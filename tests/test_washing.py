@@ -254,7 +254,7 @@ class Worths(unittest.TestCase):
         self.assertIsNotNone(told)
 
     def test_keys_that_are_no_stands(self):
-        for junk in [None, 7, "", (), ((), ()), ((),), ((), (None,)), ((), (None, 7)), ((3,), (None, None)), ((1, 0), (None, None)), ((0, 0), (None, None)), ((None,), (None, None)),
+        for junk in [None, 7, "", (), ((), ()), ((),), ((), (None,)), ((), (None, 7)), ((3,), (None, None)), ((-1,), (None, None)), ((-1, 0), (None, None)), ((1, 0), (None, None)), ((0, 0), (None, None)), ((None,), (None, None)),
                      (None, (None, None)), ((), (None, None), 1)]:
             self.assertIsNone(self.judged({junk: 7, **self.worths}), junk)
         # True is no number of an order, though Python finds it equal to 1.
