@@ -21,7 +21,7 @@ from swornlots.cutting import cut, dropped, living, shadow_papers
 from swornlots.days import Ties
 from swornlots.errors import LotError, NoWorld
 from swornlots.formulas import true_in
-from swornlots.houses import House
+from swornlots.houses import House, News
 from swornlots.papers import formula_of
 from swornlots.plants import Plant
 from swornlots.points import solve
@@ -377,6 +377,35 @@ class Sealed(unittest.TestCase):
             for word in found:
                 found[word] += len(sealed[word])
         self.assertGreater(min(found.values()), 20, found)
+
+    def test_many_clauses_about_few_marks(self):
+        """Clauses that only cases show to follow, with and without marks that are dropped."""
+        random = Random(8)
+        x, y, z = ("l2", "nuts"), ("l2", "soy"), ("l3", "nuts")
+        four = [("clause", ((x, True), (y, one), (z, other))) for one in (True, False) for other in (True, False)]
+        house = house_with([("take", lot, "kettle", 10) for lot in ("l1", "l2", "l3")], four)
+        self.assertEqual(shadow_papers(house), (("clause", ((x, True),)),))
+        found = {}
+        for _ in range(80):
+            house = house_with([("take", f"l{k}", "kettle", 10) for k in range(1, 5)])
+            marks = [(f"l{k}", trait) for k in range(1, 5) for trait in PLANT.traits][:random.randint(4, 8)]
+            clauses = []
+            for _ in range(random.randint(8, 22)):
+                clause = tuple((mark, random.random() < 0.5) for mark in sorted(random.sample(marks, 3)))
+                if isinstance(outcome(lambda: house.put_paper(("clause", clause))), News):
+                    clauses.append(clause)
+            if random.random() < 0.6:
+                house.do(("wash", "kettle"))
+                for k in random.sample(range(1, 5), 3):
+                    house.do(("take", f"l{k}", "pot", 5))
+            sealed = [paper[1] for paper in shadow_papers(house)]
+            staying = living(house)[1]
+            told = shadow_clauses(Clauses(clauses), tuple((lot, trait) for lot in staying for trait in PLANT.traits))
+            self.assertLessEqual(set(sealed), set(told))
+            if len(told) <= 60:
+                self.assertTrue(say_same(Clauses(told), Clauses(sealed)))
+            found[len(staying)] = found.get(len(staying), 0) + len(sealed)
+        self.assertGreater(min(found[3], found[4]), 30)
 
     def test_beyond_bounds(self):
         """More than 12 marks, 60 clauses, and 200 rows with those of the shares."""
