@@ -171,7 +171,8 @@ def judge_worths(menu, orders, worths, *, ties=(), prices):
     """None if the worths are as told, with that of the first stand, otherwise a stand where they are not."""
     check_orders(menu, orders)
     task = Task(menu, tuple(orders), tuple(ties), tuple(prices))
-    told = {stand: worth for stand, worth in worths.items() if is_stand(task, stand)}
+    table = worths if isinstance(worths, dict) else {}
+    told = {stand: worth for stand, worth in table.items() if is_stand(task, stand)}
     if task.first_stand() not in told:
         return task.first_stand()
     for stand, worth in told.items():

@@ -240,6 +240,8 @@ class Worths(unittest.TestCase):
             worths = {stand: worth for stand, worth in self.worths.items() if stand != missing}
             self.assertEqual(self.judged(worths), missing)
         self.assertEqual(self.judged({}), FIRST)
+        for nothing in (None, (), [], 7, "x"):
+            self.assertEqual(judge_worths(self.menu, self.orders, nothing, prices=self.prices), FIRST)
         self.assertEqual(self.judged({((0, 1, 2), (None, None)): 0}), FIRST)
 
     def test_more_stands(self):
