@@ -65,28 +65,33 @@ def work_of(bit, rows):
     return above * below - above - below
 
 
+def opened_once(rows, yes, no):
+    """What one turn through the clauses leaves open of them, with all answers by then; None if a clause is broken."""
+    left = []
+    for above, below in rows:
+        if above & yes or below & no:
+            continue
+        above, below = less(above, no), less(below, yes)
+        bits = above | below
+        if bits == 0:
+            return None
+        if bits == lowest_bit(bits):
+            yes, no = yes | above, no | below
+        else:
+            left.append((above, below))
+    return (left, yes, no)
+
+
 def opened_rows(rows, yes, no):
     """What is open of clauses where the marks of some bits are answered yes or no, with all answers that come of it.
 
     Clauses with one mark left force its answer; None if a clause is broken.
     """
     while True:
-        before = (yes, no)
-        left = []
-        for above, below in rows:
-            if above & yes or below & no:
-                continue
-            above, below = less(above, no), less(below, yes)
-            bits = above | below
-            if bits == 0:
-                return None
-            if bits == lowest_bit(bits):
-                yes, no = yes | above, no | below
-            else:
-                left.append((above, below))
-        rows = left
-        if before == (yes, no):
-            return (rows, yes, no)
+        told = opened_once(rows, yes, no)
+        if told is None or told[1:] == (yes, no):
+            return told
+        rows, yes, no = told
 
 
 def can_keep(rows, yes, no):
