@@ -8,6 +8,7 @@ import warnings
 from pathlib import Path
 
 from swornlots import errors
+from walks import changed_walks
 
 PACKAGE = Path(__file__).resolve().parent.parent / "swornlots"
 FILES = sorted(PACKAGE.rglob("*.py"))
@@ -260,6 +261,26 @@ class Language(unittest.TestCase):
                 self.assertTrue(isinstance(node.exc, ast.Call) and isinstance(node.exc.func, ast.Name), (path, node.lineno))
             else:
                 self.assertIn(ast.unparse(node.type), OWN_ERRORS, (path, node.lineno))
+
+    def test_what_loops_walk_is_not_changed(self):
+        for path, tree in self.each():
+            self.assertEqual(changed_walks(tree), [], path)
+
+    def test_changed_walks_are_seen(self):
+        for head, change, seen in (
+                ("for x in rows", "rows.append(x)", True), ("for x in rows", "rows[0] = x", True), ("for x in rows", "del rows[0]", True),
+                ("for x in rows", "rows += [x]", True), ("for x in rows", "heappush(rows, x)", True), ("for x in rows", "left.append(x)", True),
+                ("for x in rows", "last.append(x)", True), ("for k, x in enumerate(rows)", "rows.pop()", True),
+                ("for k, x in box.rows.items()", "box.rows[k] = x", True), ("for k, x in box.rows.items()", "held.pop(k)", True),
+                ("for x in (rows if box else other)", "other.append(x)", True), ("for x in rows or other", "other.append(x)", True),
+                ("for x in list(rows)", "rows.append(x)", False), ("for x in rows", "other.append(x)", False),
+                ("for x in rows", "box.rows.append(x)", False), ("for x in rows", "x = rows[0]", False),
+                ("for k, x in box.rows.items()", "other[k] = x", False)):
+            code = f"def f(rows, box, other):\n    held = box.rows\n    last = left = []\n    while box:\n        {head}:\n" \
+                   f"            {change}\n        rows, box = left, 1\n"
+            with self.subTest(head=head, change=change):
+                self.assertEqual(changed_walks(ast.parse(code)), [6] if seen else [])
+        self.assertEqual(changed_walks(ast.parse("def f(rows):\n    return [rows.pop() for x in rows]\n")), [2])
 
 
 if __name__ == "__main__":
